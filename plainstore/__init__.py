@@ -1,0 +1,1 @@
+"""Plainstore: a small store whose parts meet."""
