@@ -2,7 +2,7 @@
 
 FIRST_MOMENT = 1
 LAST_MOMENT = 999
-LAST_KEY = 9
+KEYS = (0, 1, 2, 3, 4, 5, 6, 7, 8, 9)
 LAST_VALUE = 99
 
 
@@ -23,7 +23,7 @@ def is_moment(value):
 
 def is_key(value):
     """Whether any value is a key of a row."""
-    return is_within(value, 0, LAST_KEY)
+    return is_number(value) and value in KEYS
 
 
 def is_value(value):

@@ -16,7 +16,6 @@ def row_at(past, key, t):
     """The dict from the names of the columns to the values of this key's row, None without a row."""
     check_past(past)
     check_key(key)
-    check_time(t)
     return rows_at(past, t).get(key)
 
 

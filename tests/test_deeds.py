@@ -11,7 +11,9 @@ GOOD = [
     (1, "add", "a", 0), (999, "add", "abcd", 99), (7, "drop", "zzzz"), (7, "rename", "a", "b"), (7, "rename", "a", "a"),
 ]
 BAD_NUMBERS = (True, False, None, "1", 1.0, [1], (1,))
-NO_NAMES = ("", "abcde", "A", "aB", "a1", "a b", "a\n", " ", "-", "\u00e4", "\u0430", None, 1, True, b"a", ["a"], ("a",))
+NO_NAMES = (
+    "", "abcde", "A", "aB", "a1", "a b", "a\n", " ", "-", "\u00e4", "\u0430", None, 1, True, b"a", ["a"], ("a",),
+)
 
 
 class Names(unittest.TestCase):

@@ -2,6 +2,8 @@
 
 import unittest
 
+from plainstore.changes import shown, touched
+from plainstore.copies import Copies
 from plainstore.pasts import Past
 from plainstore.plain import ask, columns_at, row_at
 
@@ -12,6 +14,16 @@ class Examples(unittest.TestCase):
     def test_plain_tables(self):
         told = (columns_at(PAST, 4), row_at(PAST, 0, 6), ask(PAST, 0, "a", 4), ask(PAST, 0, "a", 1))
         self.assertEqual(told, ([("b", 5)], {}, "no column", "no row"))
+
+    def test_touched_and_shown(self):
+        told = (touched(PAST, ("out", 2)), shown(PAST, ("out", 2)))
+        self.assertEqual(told, ({0: ((2, 999),)}, {0: ((2, 5),)}))
+
+    def test_copies(self):
+        copies = Copies(3)
+        copies.edit((0, 1), ("in", (10, "put", 0, ())))
+        copies.edit((1, 2), ("out", 10))
+        self.assertEqual((copies.seen((0, 2)), copies.lacks((0,))), ([], [10]))
 
 
 if __name__ == "__main__":

@@ -8,22 +8,23 @@ from pathlib import Path
 
 FOLDER = Path(__file__).resolve().parent.parent / "plainstore"
 FILES = sorted(FOLDER.rglob("*.py"))
-BUILTINS = """len range enumerate zip min max sum abs sorted reversed int str bool list tuple dict set isinstance ord repr
-any all divmod iter property staticmethod classmethod Exception ValueError TypeError KeyError IndexError LookupError
-ZeroDivisionError ArithmeticError OverflowError RuntimeError NotImplementedError NotImplemented""".split()
-METHODS = """append clear copy count endswith extend find get index insert isalnum isalpha isdigit islower isspace isupper
-items join keys ljust lower lstrip partition pop remove replace reverse rfind rjust rpartition rsplit rstrip setdefault
-split splitlines startswith strip update upper values zfill bit_length add discard""".split()
+BUILTINS = """len range enumerate zip min max sum abs sorted reversed int str bool list tuple dict set isinstance ord
+repr any all divmod iter property staticmethod classmethod Exception ValueError TypeError KeyError IndexError
+LookupError ZeroDivisionError ArithmeticError OverflowError RuntimeError NotImplementedError NotImplemented""".split()
+METHODS = """append clear copy count endswith extend find get index insert isalnum isalpha isdigit islower isspace
+isupper items join keys ljust lower lstrip partition pop remove replace reverse rfind rjust rpartition rsplit rstrip
+setdefault split splitlines startswith strip update upper values zfill bit_length add discard""".split()
 BARRED = r"""\b(type|typing|typing_extensions|enum|Enum|IntEnum|StrEnum|Flag|IntFlag|Generic|Protocol|ABC|ABCMeta|
 namedtuple|NamedTuple|TypedDict|TYPE_CHECKING|abstractmethod)\b|dataclass|overload|contextmanager|_wall|\(type\)|Meta|
 metaclass=""".replace("\n", "")
-NAMES_NOT_USED = """mro elements open input law version_info with_traceback add_note attrgetter breakpoint builtins compile
-copyright credits delattr dir eval exec exit gc getattr globals hasattr help id importlib license locals methodcaller os
-quit setattr super type vars sys register""".split()
+NAMES_NOT_USED = """mro elements open input law version_info with_traceback add_note attrgetter breakpoint builtins
+compile copyright credits delattr dir eval exec exit gc getattr globals hasattr help id importlib license locals
+methodcaller os quit setattr super type vars sys register""".split()
 OPERATORS = """__init__ __eq__ __len__ __iter__ __contains__ __getitem__ __enter__ __exit__ __repr__ __str__""".split()
 NODES = (
-    ast.Global, ast.AsyncFunctionDef, ast.AsyncFor, ast.AsyncWith, ast.Await, ast.GeneratorExp, ast.Yield, ast.YieldFrom,
-    ast.Try, ast.Match, ast.NamedExpr, ast.Set, ast.SetComp, ast.Pow, ast.Div, ast.MatMult, ast.JoinedStr, ast.AnnAssign,
+    ast.Global, ast.AsyncFunctionDef, ast.AsyncFor, ast.AsyncWith, ast.Await, ast.GeneratorExp, ast.Yield,
+    ast.YieldFrom, ast.Try, ast.Match, ast.NamedExpr, ast.Set, ast.SetComp, ast.Pow, ast.Div, ast.MatMult,
+    ast.JoinedStr, ast.AnnAssign,
 )
 
 
@@ -107,7 +108,8 @@ class Language(unittest.TestCase):
 
     def test_names(self):
         for path, tree in self.trees.items():
-            imported = [alias.name for node in ast.walk(tree) if isinstance(node, ast.ImportFrom) for alias in node.names]
+            imports = [node for node in ast.walk(tree) if isinstance(node, ast.ImportFrom)]
+            imported = [alias.name for node in imports for alias in node.names]
             classes = [node.name for node in ast.walk(tree) if isinstance(node, ast.ClassDef)]
             for name in bound_names(tree):
                 self.assertNotIn(name, NAMES_NOT_USED, path)

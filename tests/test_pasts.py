@@ -112,7 +112,7 @@ class Asking(unittest.TestCase):
 
 class Interface(unittest.TestCase):
     def test_methods_stand_in_the_class(self):
-        for name in ("__init__ deeds __getitem__ __contains__ __len__ __iter__ listed __eq__ with_deed without").split():
+        for name in "__init__ deeds __getitem__ __contains__ __len__ __iter__ listed __eq__ with_deed without".split():
             self.assertIn(name, vars(Past))
 
 
