@@ -1,4 +1,5 @@
 import unittest
+from inspect import signature
 
 from plainstore import errors
 from tests.kinds import odd_values
@@ -42,6 +43,14 @@ class Errors(unittest.TestCase):
             error = getattr(errors, name)
             self.assertRaises(TypeError, error)
             self.assertRaises(TypeError, error, 1, 2)
+
+    def test_each_has_in_its_own_body_how_it_is_made(self):
+        for name in NAMES:
+            made = vars(getattr(errors, name)).get("__init__")
+            self.assertIsNotNone(made, name)
+            self.assertEqual(list(signature(made).parameters), ["self", "told"], name)
+        made = vars(errors.TooMany).get("__init__")
+        self.assertEqual(list(signature(made).parameters), ["self", "most"])
 
     def test_each_can_be_raised_and_caught_by_its_base(self):
         for name in NAMES:
