@@ -3,10 +3,9 @@
 from plainstore.changes import changed, check_change, moment_of, opposite, told_change
 from plainstore.errors import NoCount, NoLot, NoPast, NothingBack, TooMany
 from plainstore.limits import is_within
-from plainstore.lots import check_lot
+from plainstore.lots import MOST_COPIES, check_lot
 from plainstore.pasts import Past
 
-MOST_COPIES = 5
 MOST_EDITS = 60
 
 

@@ -6,6 +6,7 @@ from plainstore.changes import shown, touched
 from plainstore.copies import Copies
 from plainstore.pasts import Past
 from plainstore.plain import ask, columns_at, row_at
+from plainstore.votes import chances, enough_lots, missed_paper
 
 PAST = Past([(1, "add", "a", 5), (2, "put", 0, (("a", 7),)), (4, "rename", "a", "b"), (6, "drop", "b")])
 
@@ -24,6 +25,11 @@ class Examples(unittest.TestCase):
         copies.edit((0, 1), ("in", (10, "put", 0, ())))
         copies.edit((1, 2), ("out", 10))
         self.assertEqual((copies.seen((0, 2)), copies.lacks((0,))), ([], [10]))
+
+    def test_votes(self):
+        told = (enough_lots((2, 1, 1), 3, 1), missed_paper((2, 1, 1), 3, 1, (0, 1)))
+        self.assertEqual(told, ([(0, 1, 2)], ("missed", (0, 1), (0, 2))))
+        self.assertEqual(chances((2, 1, 1), 3, 0, [(3, 4), (3, 4), (3, 4)]), ((45, 64), (57, 64)))
 
 
 if __name__ == "__main__":
