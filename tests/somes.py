@@ -46,7 +46,8 @@ def some_guarded(rng, most=5):
     names = rng.sample(NAMES[:3], rng.randrange(1, 3))
     values = rng.sample(range(100), rng.randrange(1, 4))
     guards = [("row",)] + [("has", name) for name in names]
-    rest = [part for part in some_parts(rng, "all", rng.randrange(1, most + 1), 2, names, values) if part not in guards]
+    many = min(rng.randrange(1, most + 1), 8 - len(guards))
+    rest = [part for part in some_parts(rng, "all", many, 2, names, values) if part not in guards]
     parts = guards + rest[:6 - len(guards)]
     rng.shuffle(parts)
     return ("all", tuple(parts))
