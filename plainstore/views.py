@@ -124,10 +124,10 @@ def _ways_to_hide(edits, open_ones, ways):
     told = {}
     for ruly, wild in ways:
         lots = {number: edits[number - 1][0] for number in open_ones}
-        unseen = [number for number in open_ones if not in_common(lots[number], ruly + wild)]
-        perhaps = [number for number in open_ones if not in_common(lots[number], ruly) and number not in unseen]
-        for some in all_lots(perhaps):
-            told[tuple(sorted(unseen + list(some)))] = True
+        not_surely = [number for number in open_ones if not in_common(lots[number], ruly)]
+        perhaps = [number for number in not_surely if in_common(lots[number], wild)]
+        for seen in all_lots(perhaps):
+            told[tuple([number for number in not_surely if number not in seen])] = True
     return list(told)
 
 

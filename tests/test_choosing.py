@@ -168,6 +168,9 @@ class Knowings(unittest.TestCase):
         self.assertEqual(let_tests(GUARDED, (None, True, True)), [0])
         self.assertEqual(let_tests(knowing=(None, False, None), condition=GUARDED), [])
         self.assertEqual(let_tests(("any", (FEW, ("has", "b"))), (True, None, True)), [])
+        either = ("any", (("all", (HAS, ROW, EQ)), ("has", "b")))
+        self.assertEqual([let_tests(either, (False, None, known, None)) for known in (None, True, False)], [[], [], [1, 3]])
+        self.assertIsNone(sure_value(either, (False, None, True, None)))
         self.assertEqual(sure_value(ALWAYS, (None,)), "yes")
         self.assertEqual(let_tests(ALWAYS, (None,)), [])
         # What is not closed has a sure value all the same: nothing is made False for it.

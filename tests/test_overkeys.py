@@ -195,6 +195,13 @@ class Cheapest(unittest.TestCase):
         condition = ("any", (("any", (ROW, ROW)), ("any", (ROW, ROW))))
         self.assertEqual(cheapest_over(condition, [(1, 1)] * 4, [HALF] * 4, 3)[0], condition)
 
+    def test_guards_within_a_not(self):
+        condition, costs, shares = ("not", ("all", (EQ, HAS, ROW))), [(1, 20), (2, 1), (1, 1)], [(1, 20), HALF, HALF]
+        for count in (1, 10):
+            told_plan = cheapest_over(condition, costs, shares, count)
+            self.assertEqual(told_plan, plain_cheapest_over(condition, costs, shares, count))
+            self.assertEqual(told_plan[0][1][1][2], EQ)
+
     def test_the_first_has_is_that_of_the_condition_as_given(self):
         condition = ("any", (("all", (ROW, HAS)), HAS))
         costs, shares = [(1, 1), (5, 1), (1, 1)], [HALF, (1, 3), (19, 20)]

@@ -201,6 +201,12 @@ class Unlike(unittest.TestCase):
             for more in (("has", "d"), ("any", (("eq", "c", 30), ("eq", "c", 40))), ("less", "d", 1)):
                 raised(self, TooMany, 520, call, full, more)
                 raised(self, TooMany, 520, call, more, full)
+        # By values there are 504 pictures with a row; the 32 without one count, too.
+        wide = ("any", (("eq", "a", 0), ("eq", "a", 10), ("eq", "a", 20), ("eq", "b", 10), ("eq", "b", 20), ("eq", "c", 0)))
+        self.assertEqual(len(plain_pictures(plain_cuts(wide))), 8 + 126)
+        raised(self, TooMany, 520, unlike, wide, ("any", (("has", "d"), ("has", "e"))))
+        self.assertEqual(len(plain_pictures(plain_cuts(wide, ("has", "d")))), 16 + 252)
+        self.assertEqual(unlike(wide, ("has", "d")), self.check(wide, ("has", "d")))
         six = [("any", tuple(("has", name) for name in names)) for names in (("a", "b", "c"), ("d", "e", "f"))]
         self.assertEqual(unlike(*six), (False, (False, False, False, False, False, True)))
         self.assertEqual(len(plain_pictures(plain_cuts(*six))), 128)

@@ -188,6 +188,21 @@ class Views(unittest.TestCase):
         self.assertEqual(may_see(moment=8, unruly=0, need=3, votes=(1, 1, 1), copies=copies), [0])
         self.assertEqual(may_see(Copies(1, Past([(7, "drop", "a")])), (1,), 1, 0, 7), [0])
 
+    def test_unruly_copies_may_show_some_records_and_not_others(self):
+        copies = Copies(3)
+        copies.edit((0, 1, 2), ("in", (7, "drop", "a")))
+        copies.edit((0,), ("out", 7))
+        copies.edit((0,), ("in", (7, "drop", "b")))
+        self.assertEqual(may_see(copies, (1, 1, 1), 2, 1, 7), [1, 2, 3])
+        self.assertEqual(may_see(copies, (1, 1, 1), 2, 0, 7), [1, 3])
+        copies.edit((0, 1), ("out", 7))
+        self.assertEqual(may_see(copies, (1, 1, 1), 2, 1, 7), [4])
+        rng = random.Random(83)
+        for _ in range(40):
+            copies = led(rng, 3, (1, 1, 1), 2, 8, 4, 1)
+            views = list(views_of(copies, (1, 1, 1), 2, 1))
+            self.assertEqual(may_see(copies, (1, 1, 1), 2, 1, 1), sorted({last_at(view, 1) for view in views}))
+
     def test_more_deeds_than_a_past_may_have(self):
         first = [(moment, "strike", 0) for moment in range(1, 60)] + [(60, "add", "a", 5)]
         copies = Copies(3, Past(first))

@@ -212,6 +212,9 @@ class Chances(unittest.TestCase):
         return None if best is None else (best[1], best[2], told(best[0]))
 
     def test_best_votes_of_four_copies(self):
+        ups = [(9, 14), (5, 6), (17, 20), (13, 18)]
+        self.assertEqual(best_votes(ups, 0, (3, 7)), ((1, 2, 3, 2), 4, (190843, 211680)))
+        self.assertEqual(best_votes(ups, 0, (3, 7)), self.plain_best_votes(ups, 0, (3, 7)))
         for ups, share in (([(1, 2)] * 4, (1, 2)), ([(9, 10), (1, 2), (1, 3), (1, 5)], (2, 3))):
             self.assertEqual(best_votes(share=share, unruly=1, ups=ups), self.plain_best_votes(ups, 1, share))
 

@@ -197,6 +197,26 @@ class Papers(unittest.TestCase):
             self.assertIs(accepts_walk(2, "left", ("none", states + [state])), False)
         several = sorted(walk_paper(3, "barred")[1] + [(0, 3, (0, 1), 1)])
         self.assertIs(accepts_walk(3, "barred", ("none", several)), False)
+        self.assertIs(accepts_walk(2, "free", ("none", walk_paper(2, "barred")[1])), False)
+
+    def test_more_that_is_no_state_where_all_else_is_right(self):
+        for rule in ("barred", "left"):
+            states = sorted({*walk_paper(2, rule)[1], *((begin, 2, (page,), 1) for begin in (0, 1) for page in (0, 1))})
+            self.assertIs(accepts_walk(2, rule, ("none", states)), True)
+            self.assertIs(accepts_walk(2, rule, ("some", states)), False)
+            self.assertIs(accepts_walk(2, rule, ("none", states, states)), False)
+            # None of these has any state behind it that is not among them.
+            for more in ([(2, 2, (0,), 1)], [(-1, 2, (0,), 1)], [(0, 2, (0,), 2)], [(0, 2, (1, 0), 1)], [(0, 2, (0, 0), 1)],
+                         [(0, 2, (2,), 1)], [(0, 2, (-1,), 1)], [(0, 2, (), 1)], [(0, 2, (0, 1, 2), 1)],
+                         [(0, -1, (0,), 1), (0, 0, (0,), 1)], [(0, 2, (-1, 0), 1)], [(0, 2, (0,), -1)]):
+                self.assertIs(accepts_walk(2, rule, ("none", sorted(states + more))), False)
+            for place, (begin, done, own, seen) in enumerate(states):
+                for alike in ((bool(begin), done, own, seen), (begin, done, tuple(map(bool, own)), seen),
+                              (begin, done, own, bool(seen)), (float(begin), done, own, seen)):
+                    self.assertIs(accepts_walk(2, rule, ("none", states[:place] + [alike] + states[place + 1:])), False)
+                if done < 2:
+                    alike = states[:place] + [(begin, bool(done), own, seen)] + states[place + 1:]
+                    self.assertIs(accepts_walk(2, rule, ("none", alike)), False)
 
     def test_misses(self):
         for pages in (2, 3):
@@ -220,6 +240,11 @@ class Papers(unittest.TestCase):
             self.assertIs(accepts_walk(1, "free", ("none", value)), False)
         self.assertIs(accepts_walk(2, "free", ("miss", 2, 1, [])), False)
         self.assertIs(accepts_walk(2, "free", ("miss", 0, 2, [])), False)
+        self.assertIs(accepts_walk(2, "free", ("miss", 0, -1, [])), False)
+        self.assertIs(accepts_walk(2, "free", ("miss", 1, 0, [(0, 1)])), True)
+        for begin in (-1, 2, 3):
+            for page in (0, 1):
+                self.assertIs(accepts_walk(2, "free", ("miss", begin, page, [(0, 1 - page)])), False)
 
 
 class LeastMoves(unittest.TestCase):
@@ -283,6 +308,8 @@ class LeastMoves(unittest.TestCase):
         self.assertEqual(most_missed(2, [0], [1] * 20, 10 ** 30), 20)
         self.assertEqual(most_missed(count=19, places=(1,) * 20, begins=(0,), pages=2), 19)
         self.assertEqual(most_missed(2, [0], [], 0), 0)
+        self.assertEqual([least_moves(3, [0, 0], page) for page in (0, 1, 2)], [None, 3, 2])
+        self.assertEqual([most_missed(3, [0, 0], [1, 0, 2, 2], count) for count in range(9)], [0, 0, 1, 1, 2, 2, 2, 3, 3])
         self.assertEqual(most_missed(2, [0], [0, 1, 0], 0), 0)
 
 
