@@ -1,6 +1,6 @@
 """Deeds that are enough for an answer."""
 
-from plainstore.arguments import check_key, check_name, check_past, check_time
+from plainstore.arguments import check_key, check_past, check_time
 from plainstore.columns import alters_that_do, last_row_deed
 from plainstore.deeds import in_order, is_deed, is_name
 from plainstore.limits import KEYS, LAST_MOMENT, is_key, is_number, is_within

@@ -3,8 +3,6 @@
 The lists may be longer than a past may be: changes and readers look at such, too.
 """
 
-from plainstore.deeds import ALTERS
-
 
 def table_of(deeds, t):
     """The columns, a list of pairs (name, fill), and the rows, a dict from keys to lists of values."""

@@ -169,7 +169,8 @@ class Knowings(unittest.TestCase):
         self.assertEqual(let_tests(knowing=(None, False, None), condition=GUARDED), [])
         self.assertEqual(let_tests(("any", (FEW, ("has", "b"))), (True, None, True)), [])
         either = ("any", (("all", (HAS, ROW, EQ)), ("has", "b")))
-        self.assertEqual([let_tests(either, (False, None, known, None)) for known in (None, True, False)], [[], [], [1, 3]])
+        self.assertEqual([let_tests(either, (False, None, known, None)) for known in (None, True, False)],
+                         [[], [], [1, 3]])
         self.assertIsNone(sure_value(either, (False, None, True, None)))
         self.assertEqual(sure_value(ALWAYS, (None,)), "yes")
         self.assertEqual(let_tests(ALWAYS, (None,)), [])
@@ -227,7 +228,8 @@ class Plans(unittest.TestCase):
         self.assertEqual(least_plan(FEW, costs, shares), {(None, None): 1, (None, True): 0})
         self.assertEqual(least_mean(FEW, costs, shares), (7, 3))
         self.assertEqual(plan_mean(FEW, costs, shares, {(None, None): 0, (True, None): 1}), (9, 2))
-        self.assertEqual(plan_mean(plan={(None, None): 0, (True, None): 1}, shares=shares, costs=costs, condition=FEW), (9, 2))
+        self.assertEqual(plan_mean(plan={(None, None): 0, (True, None): 1}, shares=shares, costs=costs,
+                                   condition=FEW), (9, 2))
         self.assertEqual(least_plan(FEW, [(1, 1)] * 2, [HALF] * 2), {(None, None): 0, (True, None): 1})
         self.assertEqual((least_mean(ALWAYS, [(1, 1)], [HALF]), least_plan(ALWAYS, [(1, 1)], [HALF])), ((0, 1), {}))
         self.assertIs(is_plan(ALWAYS, {}), True)
@@ -319,7 +321,8 @@ class Bounds(unittest.TestCase):
         for value in odd_values() + [list(bound), list(bound.items()), {}]:
             self.assertIs(accepts_bound(GUARDED, costs, shares, value), False)
         sure = (False, False, None)
-        for fraction in odd_values() + [(0, 2), (2, 4), (0, -1), (0, 0), (False, 1), (0, True), [0, 1], (0, 1, 1), (Odd(), 1),
+        for fraction in odd_values() + [(0, 2), (2, 4), (0, -1), (0, 0), (False, 1), (0, True), [0, 1], (0, 1, 1),
+                                        (Odd(), 1),
                                         (-2, 4), (1, 10 ** 40)]:
             self.assertIs(accepts_bound(GUARDED, costs, shares, {**bound, sure: fraction}), False)
         for fraction in ((-1, 2), (-10 ** 40, 1), (-1, 10 ** 40)):
@@ -371,7 +374,8 @@ class Refusals(unittest.TestCase):
         self.assertEqual(first_knowing(("any", (("not", EQ), ("all", (HAS, ROW))))), (None, None, None))
 
     def test_no_plan(self):
-        wrong = odd_values() + [(None,), (None, None, None), (None, 1), (0, None), [None, None], (None, "no"), (Yes(), None)]
+        wrong = odd_values() + [(None,), (None, None, None), (None, 1), (0, None), [None, None], (None, "no"),
+                                (Yes(), None)]
         for value in wrong:
             for call in (closed, sure_value, let_tests):
                 raised(self, NoPlan, value, call, FEW, value)

@@ -84,7 +84,8 @@ class Conditions(unittest.TestCase):
     def test_conditions(self):
         for value in [
             ROW, HAS, EQ, LESS, ("has", "zzzz"), ("eq", "a", 0), ("eq", "a", 99), ("less", "a", 0), ("not", ROW), DEEP,
-            ("all", (ROW,)), ("any", (ROW,) * 6), ("not", ("not", ("not", ROW))), GUARDED, ("any", (HAS, HAS, ROW, ROW)),
+            ("all", (ROW,)), ("any", (ROW,) * 6), ("not", ("not", ("not", ROW))), GUARDED,
+            ("any", (HAS, HAS, ROW, ROW)),
             ("all", (("any", (("all", (ROW,)),)),)), ("all", (ROW, ("all", (ROW, HAS)), HAS, ("has", "b"))),
             ("all", (("not", ROW), ("not", ROW), EQ, EQ)),
         ]:
@@ -93,7 +94,8 @@ class Conditions(unittest.TestCase):
 
     def test_forms_that_are_none(self):
         for value in odd_values() + [
-            ("rows",), ("row", "a"), ("has",), ("has", "A"), ("has", "abcde"), ("has", ""), ("has", "a", "b"), ("has", 1),
+            ("rows",), ("row", "a"), ("has",), ("has", "A"), ("has", "abcde"), ("has", ""), ("has", "a", "b"),
+            ("has", 1),
             ("eq", "a"), ("eq", "a", 100), ("eq", "a", -1), ("eq", "a", True), ("eq", "a", 1.0), ("eq", "a", 1, 1),
             ("eq", 1, "a"), ("more", "a", 1), ("less", "a", None), ("not",), ("not", ROW, ROW), ("not", (ROW,)),
             ("all", ()), ("all", ROW), ("all", [ROW]), ("any", ()), ("any", (ROW,) * 7), ("all", (ROW, None)), ["row"],
@@ -103,7 +105,8 @@ class Conditions(unittest.TestCase):
             self.assertIs(is_condition(("not", value)), False, value)
             self.assertIs(is_condition(("any", (ROW, value))), False, value)
         for value in odd_values():
-            for part in ((value,), ("has", value), ("eq", value, 1), ("eq", "a", value), ("less", "a", value), (value, ROW),
+            for part in ((value,), ("has", value), ("eq", value, 1), ("eq", "a", value), ("less", "a", value),
+                         (value, ROW),
                          ("all", value), ("any", value), ("not", value), ("row", value)):
                 if repr(value) != "'put'" or part[0] not in ("has", "eq"):
                     self.assertIs(is_condition(part), False)
@@ -185,7 +188,8 @@ class Runs(unittest.TestCase):
     def test_each_test(self):
         self.assertEqual([run(ROW, PAST, key, t) for key, t in ((0, 1), (0, 2), (2, 9))], ["no", "yes", "no"])
         self.assertEqual([run(HAS, PAST, 5, t) for t in (0, 1, 4, 5)], ["no", "yes", "yes", "no"])
-        self.assertEqual([run(EQ, PAST, key, t) for key, t in ((0, 1), (0, 2), (1, 3), (0, 5))], ["fault", "yes", "no", "fault"])
+        self.assertEqual([run(EQ, PAST, key, t) for key, t in ((0, 1), (0, 2), (1, 3), (0, 5))],
+                         ["fault", "yes", "no", "fault"])
         self.assertEqual([run(("less", "a", v), PAST, 1, 3) for v in (6, 7, 8)], ["no", "no", "yes"])
         self.assertEqual([run(("less", "b", v), PAST, 0, 999) for v in (5, 6)], ["no", "yes"])
 
@@ -223,7 +227,8 @@ class Arrangements(unittest.TestCase):
         for condition in conditions:
             mine = all_arrangements(condition)
             self.assertEqual(how_many_orders(condition), len(mine))
-            for value in mine + conditions + [arranged for other in conditions[:8] for arranged in all_arrangements(other)]:
+            others = [value for other in conditions[:8] for value in all_arrangements(other)]
+            for value in mine + conditions + others:
                 self.assertIs(is_arrangement(condition, value), value in mine)
 
     def test_told(self):
@@ -243,7 +248,8 @@ class Arrangements(unittest.TestCase):
     def test_any_value(self):
         one = ("any", (("eq", "a", 1), ("eq", "b", 0)))
         self.assertIs(is_arrangement(one, one), True)
-        for value in odd_values() + [("any", (("eq", "a", True), ("eq", "b", 0))), ("any", (("eq", "a", 1), ("eq", "b", 0.0))),
+        for value in odd_values() + [("any", (("eq", "a", True), ("eq", "b", 0))),
+                                     ("any", (("eq", "a", 1), ("eq", "b", 0.0))),
                                      ("any", list(one[1])), list(one)]:
             self.assertIs(is_arrangement(one, value), False)
             self.assertIs(is_arrangement(one, ("any", (("eq", "a", 1), value))), False)
@@ -251,7 +257,8 @@ class Arrangements(unittest.TestCase):
 
 class Refusals(unittest.TestCase):
     def test_no_condition(self):
-        wrong = odd_values() + [("all", (ROW, ROW)), ("any", ()), ("not", ("not", ("not", ("not", ROW)))), ("eq", "a", 100)]
+        wrong = odd_values() + [("all", (ROW, ROW)), ("any", ()), ("not", ("not", ("not", ("not", ROW)))),
+                                ("eq", "a", 100)]
         for value in wrong:
             for call in (tests_of, names_of, paths, how_many_orders):
                 raised(self, NoCondition, value, call, value)

@@ -98,7 +98,8 @@ class Runs(unittest.TestCase):
         seen = set()
         for _ in range(500):
             condition = rng.choice((some_condition, some_guarded))(rng, 5)
-            deeds, count, t = some_deeds(rng, rng.choice((3, 9, 14)), 14, 4), rng.choice((1, 2, 3, 10)), rng.choice((7, 14))
+            deeds = some_deeds(rng, rng.choice((3, 9, 14)), 14, 4)
+            count, t = rng.choice((1, 2, 3, 10)), rng.choice((7, 14))
             tests, kept, pairs, outcome = tests_in(condition), set(), [], ("keys", [])
             for key in range(count):
                 answers, word = plain_asked(condition, deeds, key, t)
@@ -117,7 +118,8 @@ class Runs(unittest.TestCase):
         self.assertEqual(seen, {("keys", True), ("fault", False), ("fault", True)})
 
     def test_told(self):
-        past = Past([(1, "add", "a", 1), (2, "put", 0, ()), (3, "put", 2, (("a", 5),)), (4, "put", 3, ()), (9, "drop", "a")])
+        past = Past([(1, "add", "a", 1), (2, "put", 0, ()), (3, "put", 2, (("a", 5),)), (4, "put", 3, ()),
+                     (9, "drop", "a")])
         self.assertEqual(run_over(GUARDED, past, 4, 8), ("keys", [0, 3]))
         self.assertEqual(run_over(GUARDED, past, 3, 8), ("keys", [0]))
         self.assertEqual(run_over(GUARDED, past, 10, 9), ("keys", []))
@@ -142,7 +144,8 @@ class Means(unittest.TestCase):
             condition = rng.choice((some_condition, some_guarded))(rng, 5)
             costs, shares = some_costs(rng, count_tests(condition))
             count = rng.choice((1, 2, 3, 10))
-            self.assertEqual(mean_over(condition, costs, shares, count), told(plain_mean_over(condition, costs, shares, count)))
+            expected = told(plain_mean_over(condition, costs, shares, count))
+            self.assertEqual(mean_over(condition, costs, shares, count), expected)
 
     def test_beside_the_runs_of_all_keys_together(self):
         rng = random.Random(152)
@@ -151,7 +154,8 @@ class Means(unittest.TestCase):
             costs, shares = some_costs(rng, count_tests(condition))
             free = sum(test[0] != "has" for test in tests_in(condition))
             count = rng.choice((1, 2, 3)) if free <= 3 else 1
-            self.assertEqual(mean_over(condition, costs, shares, count), told(all_runs_mean(condition, costs, shares, count)))
+            expected = told(all_runs_mean(condition, costs, shares, count))
+            self.assertEqual(mean_over(condition, costs, shares, count), expected)
 
     def test_told(self):
         self.assertEqual(mean_over(HAS, [(3, 1)], [HALF], 10), (3, 1))
@@ -208,8 +212,8 @@ class Cheapest(unittest.TestCase):
         self.assertEqual(cheapest_over(condition, costs, shares, 2), plain_cheapest_over(condition, costs, shares, 2))
         self.assertEqual(mean_over(condition, costs, shares, 2), told(plain_mean_over(condition, costs, shares, 2)))
         turned = ("any", (HAS, ("all", (ROW, HAS))))
-        self.assertNotEqual(mean_over(turned, [costs[2], *costs[:2]], [shares[2], *shares[:2]], 2),
-                            told(plain_mean_over(turned, [costs[2], *costs[:2]], [shares[2], *shares[:2]], 2, {"a": 2})))
+        costs, shares = [costs[2], *costs[:2]], [shares[2], *shares[:2]]
+        self.assertNotEqual(mean_over(turned, costs, shares, 2), told(plain_mean_over(turned, costs, shares, 2, {"a": 2})))
 
 
 class Refusals(unittest.TestCase):

@@ -68,7 +68,8 @@ def some_cuts(rng):
 
 class Regions(unittest.TestCase):
     def test_cuts(self):
-        self.assertEqual(cuts_of(("any", (("less", "b", 7), HAS, ("eq", "b", 2), ROW, ("eq", "b", 7)))), {"b": (2, 7), "a": ()})
+        self.assertEqual(cuts_of(("any", (("less", "b", 7), HAS, ("eq", "b", 2), ROW, ("eq", "b", 7)))),
+                         {"b": (2, 7), "a": ()})
         self.assertEqual(list(cuts_of(condition=("any", (("less", "b", 7), HAS)))), ["b", "a"])
         self.assertEqual(cuts_of(ROW), {})
         rng = random.Random(120)
@@ -101,7 +102,8 @@ class Pictures(unittest.TestCase):
             self.assertEqual(pictures(condition), plain_pictures(plain_cuts(condition)))
         self.assertEqual(pictures(condition=("any", (EQ, ("has", "b")))), [
             (False, (False, False)), (False, (False, True)), (False, (True, False)), (False, (True, True)),
-            (True, (None, None)), (True, (None, 0)), (True, (0, None)), (True, (0, 0)), (True, (1, None)), (True, (1, 0)),
+            (True, (None, None)), (True, (None, 0)), (True, (0, None)), (True, (0, 0)), (True, (1, None)),
+            (True, (1, 0)),
             (True, (2, None)), (True, (2, 0)),
         ])
         self.assertEqual(pictures(ROW), [(False, ()), (True, ())])
@@ -109,7 +111,8 @@ class Pictures(unittest.TestCase):
             ("eq", "a", 1), ("eq", "b", 1), ("eq", "c", 1)))))), 8 + 64)
 
     def test_the_most(self):
-        cuts = [("any", tuple(("less", name, cut) for cut in (1, 3, 5)[:most])) for name, most in (("a", 3), ("b", 3), ("c", 2))]
+        names = (("a", 3), ("b", 3), ("c", 2))
+        cuts = [("any", tuple(("less", name, cut) for cut in (1, 3, 5)[:most])) for name, most in names]
         self.assertEqual(len(pictures(("any", tuple(cuts)))), 8 + 8 * 8 * 6)
         pictures(ROW).clear()
         self.assertEqual(len(pictures(ROW)), 2)
@@ -202,7 +205,8 @@ class Unlike(unittest.TestCase):
                 raised(self, TooMany, 520, call, full, more)
                 raised(self, TooMany, 520, call, more, full)
         # By values there are 504 pictures with a row; the 32 without one count, too.
-        wide = ("any", (("eq", "a", 0), ("eq", "a", 10), ("eq", "a", 20), ("eq", "b", 10), ("eq", "b", 20), ("eq", "c", 0)))
+        wide = ("any", (("eq", "a", 0), ("eq", "a", 10), ("eq", "a", 20), ("eq", "b", 10), ("eq", "b", 20),
+                        ("eq", "c", 0)))
         self.assertEqual(len(plain_pictures(plain_cuts(wide))), 8 + 126)
         raised(self, TooMany, 520, unlike, wide, ("any", (("has", "d"), ("has", "e"))))
         self.assertEqual(len(plain_pictures(plain_cuts(wide, ("has", "d")))), 16 + 252)
@@ -243,9 +247,12 @@ class Refusals(unittest.TestCase):
     def test_no_picture(self):
         condition = ("any", (("eq", "a", 0), ("has", "b")))
         wrong = odd_values() + [
-            (False, (True,)), (False, (True, True, True)), (False, (None, True)), (False, (0, 1)), (False, [True, True]),
-            (True, (0, None)), (True, (3, None)), (True, (1, 1)), (True, (-1, None)), (True, (False, None)), (1, (1, None)),
-            (True, (True, None)), (0, (True, True)), (True, (1.0, None)), (True, [1, None]), (True, (1, None), 1), (True,),
+            (False, (True,)), (False, (True, True, True)), (False, (None, True)), (False, (0, 1)),
+            (False, [True, True]),
+            (True, (0, None)), (True, (3, None)), (True, (1, 1)), (True, (-1, None)), (True, (False, None)),
+            (1, (1, None)),
+            (True, (True, None)), (0, (True, True)), (True, (1.0, None)), (True, [1, None]), (True, (1, None), 1),
+            (True,),
             (None, (1, None)), [True, (1, None)], (True, (1, Yes())), (False, (Yes(), True)), (Yes(), (True, True)),
             (True, (10 ** 40, None)), (True, (1, "")), (False, (True, None)),
         ]

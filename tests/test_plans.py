@@ -80,7 +80,8 @@ class Guards(unittest.TestCase):
         self.assertIs(is_guarded(condition=parted), False)
         self.assertEqual(guards(("all", (ROW, ("all", (HAS, EQ))))), [((1, 1), (1, 0), (0,))])
         self.assertIs(is_guarded(("all", (ROW, ("all", (HAS, EQ))))), True)
-        self.assertEqual([is_guarded(condition) for condition in (GUARDED, ("all", (HAS, EQ, ROW)), ROW)], [True, False, True])
+        self.assertEqual([is_guarded(condition) for condition in (GUARDED, ("all", (HAS, EQ, ROW)), ROW)],
+                         [True, False, True])
 
     def test_beside_going_down(self):
         rng = random.Random(130)
@@ -171,7 +172,8 @@ class Cheapest(unittest.TestCase):
         self.assertEqual(cheapest(condition, [(1, 1)] * 4, [HALF] * 4)[0], ("all", (HAS, ROW, one, two)))
         condition = ("any", (("not", ("any", (ROW, HAS))), ("has", "b")))
         self.assertEqual(cheapest(condition, [(1, 1)] * 3, [HALF] * 3)[0], ("any", (("has", "b"), condition[1][0])))
-        self.assertEqual(cheapest(("any", (ROW, ROW, HAS)), [(1, 1)] * 3, [HALF] * 3), (("any", (ROW, ROW, HAS)), (7, 4)))
+        self.assertEqual(cheapest(("any", (ROW, ROW, HAS)), [(1, 1)] * 3, [HALF] * 3),
+                         (("any", (ROW, ROW, HAS)), (7, 4)))
 
     def test_costs_and_shares_move_with_their_tests(self):
         costs, shares = [(3, 1), (2, 1), (1, 1)], [HALF] * 3
@@ -219,7 +221,8 @@ class Refusals(unittest.TestCase):
                 raised(self, NoCosts, value, call, condition, value, None)
             for value in either + [[HALF, (1, 1)], [HALF, (3, 2)], [HALF, (20, 19)]]:
                 raised(self, NoShares, value, call, condition, [(20, 1), (1, 20)], value)
-        self.assertEqual(mean(condition, ((20, 19), (1, 20)), ((19, 20), (1, 20))), told(Fraction(20, 19) + Fraction(1, 400)))
+        self.assertEqual(mean(condition, ((20, 19), (1, 20)), ((19, 20), (1, 20))),
+                         told(Fraction(20, 19) + Fraction(1, 400)))
 
 
 if __name__ == "__main__":

@@ -132,7 +132,8 @@ class Papers(unittest.TestCase):
     def test_any_value(self):
         right = ("missed", (0, 1), (0, 2))
         self.assertIs(accepts_missed(paper=right, unruly=1, need=3, votes=(2, 1, 1)), True)
-        for value in odd_values() + [list(right), right[:2], right + ((),), ("miss",) + right[1:], ("missed", [0, 1], (0, 2)),
+        for value in odd_values() + [list(right), right[:2], right + ((),), ("miss",) + right[1:],
+                                     ("missed", [0, 1], (0, 2)),
                                      ("missed", (1, 0), (0, 2)), ("missed", (0, 1), (2, 0)), ("missed", (0, 3), (0, 2)),
                                      ("missed", (False, 1), (0, 2)), ("missed", (0, 1), (0, 0, 2))]:
             self.assertIs(accepts_missed((2, 1, 1), 3, 1, value), False)
@@ -164,7 +165,8 @@ class Chances(unittest.TestCase):
             for unruly in range(count + 1):
                 for up in [(0, 1), (1, 1), (1, 2)] + rng.sample(SMALL, 6):
                     for share in [(0, 1), (1, 1), (1, 2)] + rng.sample(SMALL, 3):
-                        self.assertEqual(best_counts(count, unruly, up, share), self.plain_best(count, unruly, up, share))
+                        self.assertEqual(best_counts(count, unruly, up, share),
+                                         self.plain_best(count, unruly, up, share))
 
     def plain_best(self, count, unruly, up, share):
         def up_at_least(many):
@@ -222,7 +224,8 @@ class Chances(unittest.TestCase):
 class Refusals(unittest.TestCase):
     def test_votes_needs_unruly_and_lots(self):
         calls = (is_write_lot, is_enough, enough_lots, write_lots, missed_paper, accepts_missed, chances)
-        more = {is_write_lot: 1, is_enough: 2, enough_lots: 1, write_lots: 0, missed_paper: 2, accepts_missed: 2, chances: 2}
+        more = {is_write_lot: 1, is_enough: 2, enough_lots: 1, write_lots: 0, missed_paper: 2, accepts_missed: 2,
+                chances: 2}
         for call in calls:
             for value in odd_values() + [(0,), (1,) * 6]:
                 if not is_votes(value):

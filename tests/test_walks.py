@@ -1,6 +1,6 @@
 import random
 import unittest
-from itertools import product
+from itertools import combinations, product
 
 from plainstore.errors import NoCount, NoMoves, NoPage, NoWay
 from plainstore.walks import RULES, accepts_walk, distance, is_let, least_moves, most_missed, sights, walk_paper
@@ -169,7 +169,7 @@ class Papers(unittest.TestCase):
         for pages, rule in ((1, "barred"), (2, "barred"), (2, "left"), (3, "barred"), (3, "left"), (2, "free")):
             owns = [(page,) for page in range(pages)]
             if rule == "left":
-                owns = [own for size in range(1, 2 ** pages) for own in [tuple(p for p in range(pages) if size >> p & 1)]]
+                owns = [own for size in range(1, pages + 1) for own in combinations(range(pages), size)]
             every = sorted(product(range(pages), range(pages + 1), owns, (0, 1)))
             seen = [state for state in every if state[3] == 1]
             told = walk_paper(pages, rule)[1] if rule != "free" else every
@@ -206,7 +206,8 @@ class Papers(unittest.TestCase):
             self.assertIs(accepts_walk(2, rule, ("some", states)), False)
             self.assertIs(accepts_walk(2, rule, ("none", states, states)), False)
             # None of these has any state behind it that is not among them.
-            for more in ([(2, 2, (0,), 1)], [(-1, 2, (0,), 1)], [(0, 2, (0,), 2)], [(0, 2, (1, 0), 1)], [(0, 2, (0, 0), 1)],
+            for more in ([(2, 2, (0,), 1)], [(-1, 2, (0,), 1)], [(0, 2, (0,), 2)], [(0, 2, (1, 0), 1)],
+                         [(0, 2, (0, 0), 1)],
                          [(0, 2, (2,), 1)], [(0, 2, (-1,), 1)], [(0, 2, (), 1)], [(0, 2, (0, 1, 2), 1)],
                          [(0, -1, (0,), 1), (0, 0, (0,), 1)], [(0, 2, (-1, 0), 1)], [(0, 2, (0,), -1)]):
                 self.assertIs(accepts_walk(2, rule, ("none", sorted(states + more))), False)
@@ -230,7 +231,8 @@ class Papers(unittest.TestCase):
 
     def test_any_value(self):
         right = ("miss", 0, 1, [(0, 0)])
-        for value in odd_values() + [list(right), right[:3], right + (1,), ("none",), ("none", [], []), ("Miss",) + right[1:],
+        for value in odd_values() + [list(right), right[:3], right + (1,), ("none",), ("none", [], []),
+                                     ("Miss",) + right[1:],
                                      ("some", []), ("none", None), (None, []), "none", ("none", right)]:
             for rule in RULES:
                 self.assertIs(accepts_walk(2, rule, value), False)
@@ -309,7 +311,8 @@ class LeastMoves(unittest.TestCase):
         self.assertEqual(most_missed(count=19, places=(1,) * 20, begins=(0,), pages=2), 19)
         self.assertEqual(most_missed(2, [0], [], 0), 0)
         self.assertEqual([least_moves(3, [0, 0], page) for page in (0, 1, 2)], [None, 3, 2])
-        self.assertEqual([most_missed(3, [0, 0], [1, 0, 2, 2], count) for count in range(9)], [0, 0, 1, 1, 2, 2, 2, 3, 3])
+        self.assertEqual([most_missed(3, [0, 0], [1, 0, 2, 2], count) for count in range(9)],
+                         [0, 0, 1, 1, 2, 2, 2, 3, 3])
         self.assertEqual(most_missed(2, [0], [0, 1, 0], 0), 0)
 
 
