@@ -213,7 +213,8 @@ class Cheapest(unittest.TestCase):
         self.assertEqual(mean_over(condition, costs, shares, 2), told(plain_mean_over(condition, costs, shares, 2)))
         turned = ("any", (HAS, ("all", (ROW, HAS))))
         costs, shares = [costs[2], *costs[:2]], [shares[2], *shares[:2]]
-        self.assertNotEqual(mean_over(turned, costs, shares, 2), told(plain_mean_over(turned, costs, shares, 2, {"a": 2})))
+        otherwise = told(plain_mean_over(turned, costs, shares, 2, {"a": 2}))
+        self.assertNotEqual(mean_over(turned, costs, shares, 2), otherwise)
 
 
 class Refusals(unittest.TestCase):
