@@ -3,18 +3,14 @@
 from plainstore.arguments import check_past
 from plainstore.deeds import in_order, is_deed
 from plainstore.errors import NoChange, NoMoment
+from plainstore.limits import is_number
 from plainstore.stretches import do_meet, shown_lines, touched_lines
 
 
 def is_change(past, value):
     """Whether any value is a change of the past."""
     check_past(past)
-    if not isinstance(value, tuple) or len(value) != 2 or not isinstance(value[0], str):
-        return False
-    word, what = value
-    if word == "in":
-        return is_deed(what) and what[0] not in past
-    return word == "out" and what in past
+    return is_change_among(past.listed(), value)
 
 
 def changed(past, change):
@@ -66,6 +62,16 @@ def check_change(past, change):
     """Refuse what is no past, then what is no change of it."""
     if not is_change(past, change):
         raise NoChange(change)
+
+
+def is_change_among(moments, value):
+    """Whether any value is a change where there are deeds at these moments, however many."""
+    if not isinstance(value, tuple) or len(value) != 2 or not isinstance(value[0], str):
+        return False
+    word, what = value
+    if word == "in":
+        return is_deed(what) and what[0] not in moments
+    return word == "out" and is_number(what) and what in moments
 
 
 def moment_of(change):

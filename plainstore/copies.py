@@ -69,9 +69,13 @@ class Copies:
 
     def records(self, copy):
         """The records that lie on a copy, by moments, then numbers."""
+        self.check_copy(copy)
+        return self._lying_on((copy,))
+
+    def check_copy(self, copy):
+        """Refuse what is no number of a copy."""
         if not is_within(copy, 0, self._count - 1):
             raise NoLot(copy)
-        return self._lying_on((copy,))
 
     def seen(self, lot):
         """The deeds that a lot sees, by moments."""

@@ -7,6 +7,13 @@ from plainstore.limits import is_number
 MOST_DEEDS = 60
 
 
+def is_listed_past(value):
+    """Whether any value is a list or tuple of deeds that a past can be made of."""
+    if not isinstance(value, (list, tuple)) or len(value) > MOST_DEEDS or not all([is_deed(deed) for deed in value]):
+        return False
+    return len(set([deed[0] for deed in value])) == len(value)
+
+
 class Past:
     """A set of up to sixty deeds at unlike moments, which never changes."""
 

@@ -1,7 +1,7 @@
 """What is plainly there at each moment."""
 
 from plainstore.arguments import check_key, check_name, check_past, check_time
-from plainstore.tables import answer_of, table_of
+from plainstore.tables import answer_of, rows_by_names, table_of
 
 
 def columns_at(past, t):
@@ -23,9 +23,7 @@ def rows_at(past, t):
     """The dict from the keys that have rows, ascending, to these rows."""
     check_past(past)
     check_time(t)
-    columns, rows = table_of(past.deeds(), t)
-    names = [name for name, _ in columns]
-    return {key: dict(zip(names, rows[key])) for key in sorted(rows)}
+    return rows_by_names(past.deeds(), t)
 
 
 def ask(past, key, name, t):

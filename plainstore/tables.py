@@ -15,6 +15,13 @@ def table_of(deeds, t):
     return columns, rows
 
 
+def rows_by_names(deeds, t):
+    """The dict from the keys that have rows, ascending, to dicts from the names of columns to values."""
+    columns, rows = table_of(deeds, t)
+    names = [name for name, _ in columns]
+    return {key: dict(zip(names, rows[key])) for key in sorted(rows)}
+
+
 def answer_of(deeds, key, name, t):
     """What is asked of a key and a name: its value, or why there is none."""
     columns, rows = table_of(deeds, t)

@@ -12,8 +12,8 @@ MOST_PLACES = 20
 def distance(pages, begin, page):
     """How many visits of a walk come ahead of that of the page."""
     _check_pages(pages)
-    _check_page(pages, begin)
-    _check_page(pages, page)
+    check_page(pages, begin)
+    check_page(pages, page)
     return (page - begin) % pages
 
 
@@ -37,7 +37,7 @@ def sights(pages, rule, begin, page, moves):
 def walk_paper(pages, rule):
     """A paper of walks: how one misses a record, or the states that show that none does."""
     _check_pages(pages)
-    _check_rule(rule)
+    check_rule(rule)
     if rule == "free" and pages > 1:
         return ("miss", 0, 1, [(0, 0)])
     found = {}
@@ -53,7 +53,7 @@ def walk_paper(pages, rule):
 def accepts_walk(pages, rule, value):
     """Whether any value is a right paper of walks."""
     _check_pages(pages)
-    _check_rule(rule)
+    check_rule(rule)
     if not isinstance(value, tuple) or not value or not isinstance(value[0], str):
         return False
     word, *parts = value
@@ -65,7 +65,7 @@ def accepts_walk(pages, rule, value):
 def least_moves(pages, begins, page):
     """The fewest moves by which all free walks miss a record on this page, or None."""
     _check_begins(pages, begins)
-    _check_page(pages, page)
+    check_page(pages, page)
     return _least_moves(pages, begins, page)
 
 
@@ -85,26 +85,33 @@ def most_missed(pages, begins, places, count):
     return missed
 
 
+def check_page(pages, page):
+    """Refuse what is none of so many pages."""
+    if not is_within(page, 0, pages - 1):
+        raise NoPage(page)
+
+
+def check_rule(rule):
+    """Refuse what is no rule of walks."""
+    if not isinstance(rule, str) or rule not in RULES:
+        raise NoWay(rule)
+
+
+def is_barred(pages, begin, done, own, other):
+    """Whether a record would move from a page that is not visited yet to one that is."""
+    return (other - begin) % pages < done <= (own - begin) % pages
+
+
 def _check_pages(pages):
     if not is_within(pages, 1, MOST_PAGES):
         raise NoCount(pages)
 
 
-def _check_page(pages, page):
-    if not is_within(page, 0, pages - 1):
-        raise NoPage(page)
-
-
-def _check_rule(rule):
-    if not isinstance(rule, str) or rule not in RULES:
-        raise NoWay(rule)
-
-
 def _check_walk(pages, rule, begin, page):
     _check_pages(pages)
-    _check_rule(rule)
-    _check_page(pages, begin)
-    _check_page(pages, page)
+    check_rule(rule)
+    check_page(pages, begin)
+    check_page(pages, page)
 
 
 def _check_begins(pages, begins):
@@ -130,15 +137,10 @@ def _first_wrong(pages, rule, begin, page, moves):
         # Behind the last visit nothing moves any more.
         if not is_within(visit, last, pages - 2) or not is_within(other, 0, pages - 1) or other == own:
             return index
-        if rule == "barred" and _is_barred(pages, begin, visit + 1, own, other):
+        if rule == "barred" and is_barred(pages, begin, visit + 1, own, other):
             return index
         last, own = visit, other
     return None
-
-
-def _is_barred(pages, begin, done, own, other):
-    """Whether a record would move from a page that is not visited yet to one that is."""
-    return (other - begin) % pages < done <= (own - begin) % pages
 
 
 def _sights(pages, rule, begin, page, moves):
@@ -171,7 +173,7 @@ def _states_behind(pages, rule, state):
         for page in range(pages):
             if rule == "left":
                 told.append((begin, done, tuple(sorted(set(own + (page,)))), seen))
-            elif rule == "free" or not _is_barred(pages, begin, done, own[0], page):
+            elif rule == "free" or not is_barred(pages, begin, done, own[0], page):
                 told.append((begin, done, (page,), seen))
     return told
 

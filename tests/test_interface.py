@@ -66,10 +66,60 @@ FUNCTIONS = {
         run_over(condition, past, count, t); asked_over(condition, past, count, t)
         mean_over(condition, costs, shares, count); cheapest_over(condition, costs, shares, count)
     """,
+    "parted": """
+        mixed_outcome(condition, one, other, count); parted(condition); parted_paper(condition)
+        accepts_parted(condition, paper); parted_over(condition)
+    """,
+    "rules": """
+        invented(rules, past, t, *, most=2000); numbered(rules, past, t, keys, *, most=2000); depth(value)
+        one_row(rules, values, *, most=2000)
+    """,
+    "ends": """
+        reached(rules); arrows(rules); ends(rules); numbers(rules); greatest_depth(rules); ends_paper(rules)
+        accepts_ends(rules, paper); most_rows(rules, count, *, most=2000)
+    """,
+    "support": """
+        support(rules, past, t, *, most=2000); brought(rules, past, change, t, *, most=2000)
+        inner(rules, present, *, most=2000); album(rules, present, known); surely(rules, present, known, question)
+        sure_paper(rules, present, known, question); accepts_sure(rules, paper)
+    """,
+    "wishes": """
+        is_so(past, wish); least_changes(past, wish); does(past, wish, changes)
+    """,
+    "settings": """
+        verdict(setting); is_plain(setting); varying(rules)
+    """,
+    "texts": """
+        write(live); read(text); is_written(text); rows_of(live, word)
+    """,
 }
 METHODS = {
     ("pasts", "Past"): "__init__ deeds __getitem__ __contains__ __len__ __iter__ listed __eq__ with_deed without",
     ("copies", "Copies"): "__init__ many edit past edits records seen lacks undo redo line __len__ twin __eq__",
+    ("rules", "Rules"): "__init__ all_rules names tables column_names border __len__ __iter__ listed __eq__",
+    ("settings", "Setting"): """
+        __init__ many reads writes unruly pages condition plan reading making rules __eq__ twin
+    """,
+    ("live", "Live"): """
+        __init__ setting past edits line records seen lacks page_of ask run invented edit undo redo move walk step drop
+        walks back again __len__ trial trying twin __eq__
+    """,
+    ("console", "Console"): "__init__ run",
+}
+SIGNATURES = {
+    ("rules", "Rules"): "__init__(self, rules=()); border(self, name)",
+    ("settings", "Setting"): """
+        __init__(self, count=3, reads=2, writes=2, unruly=0, pages=1, *, condition=('row',), plan=None, reading='one',
+        making='content', rules=None); twin(self)
+    """,
+    ("live", "Live"): """
+        __init__(self, setting, past=None); records(self, copy); seen(self, lot); lacks(self, lot);
+        page_of(self, copy, moment, number); ask(self, key, name, t); run(self, key, t); invented(self, t);
+        edit(self, lot, change); undo(self, lot); redo(self, lot); move(self, copy, moment, number, page);
+        walk(self, copy, page, rule); step(self, walk); drop(self, walk); trial(self);
+        trying(self, guest, *, kept=False); twin(self)
+    """,
+    ("console", "Console"): "__init__(self); run(self, line)",
 }
 
 
@@ -90,6 +140,13 @@ class Interface(unittest.TestCase):
             self.assertEqual(found.__module__, "plainstore." + module)
             for method in methods.split():
                 self.assertIn(method, vars(found))
+
+    def test_arguments_of_methods(self):
+        for (module, name), text in SIGNATURES.items():
+            found = getattr(importlib.import_module("plainstore." + module), name)
+            for row in " ".join(text.split()).split("; "):
+                method = row.partition("(")[0]
+                self.assertEqual(method + str(inspect.signature(vars(found)[method])), row)
 
 
 if __name__ == "__main__":

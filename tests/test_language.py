@@ -6,6 +6,8 @@ import re
 import unittest
 from pathlib import Path
 
+from plainstore import errors
+
 FOLDER = Path(__file__).resolve().parent.parent / "plainstore"
 FILES = sorted(FOLDER.rglob("*.py"))
 BUILTINS = """len range enumerate zip min max sum abs sorted reversed int str bool list tuple dict set isinstance ord
@@ -24,7 +26,7 @@ OPERATORS = """__init__ __eq__ __len__ __iter__ __contains__ __getitem__ __enter
 LIBRARY = {"math": ["gcd", "lcm", "isqrt", "comb", "perm", "factorial"]}
 NODES = (
     ast.Global, ast.AsyncFunctionDef, ast.AsyncFor, ast.AsyncWith, ast.Await, ast.GeneratorExp, ast.Yield,
-    ast.YieldFrom, ast.Try, ast.Match, ast.NamedExpr, ast.Set, ast.SetComp, ast.Pow, ast.Div, ast.MatMult,
+    ast.YieldFrom, ast.Match, ast.NamedExpr, ast.Set, ast.SetComp, ast.Pow, ast.Div, ast.MatMult,
     ast.JoinedStr, ast.AnnAssign,
 )
 
@@ -73,6 +75,39 @@ class Language(unittest.TestCase):
         for node, place in self.each(ast.Constant):
             self.assertNotIsInstance(node.value, (float, complex), place)
             self.assertFalse(isinstance(node.value, str) and "%" in node.value, place)
+
+    def test_own_errors_are_caught_by_name(self):
+        own = vars(errors)
+        for node, place in self.each(ast.Try):
+            self.assertEqual((len(node.body), node.orelse, node.finalbody), (1, [], []), place)
+            for handler in node.handlers:
+                names = handler.type.elts if isinstance(handler.type, ast.Tuple) else [handler.type]
+                self.assertTrue(all(isinstance(own[name.id], type) for name in names), place)
+                self.assertIsNone(handler.name, place)
+
+    def test_what_leaves_a_block_only_assigns(self):
+        for node, place in self.each(ast.FunctionDef):
+            if node.name == "__exit__":
+                for part in ast.walk(node):
+                    kinds = (ast.Call, ast.Subscript, ast.For, ast.While, ast.Return, ast.Raise, ast.AugAssign, ast.Dict)
+                    self.assertNotIsInstance(part, kinds, place)
+                    if isinstance(part, ast.Assign):
+                        self.assertIsInstance(part.targets[0], ast.Attribute, place)
+                    if isinstance(part, ast.Compare):
+                        self.assertIsNone(part.comparators[0].value, place)
+
+    def test_no_name_is_both_a_method_and_an_attribute(self):
+        methods, properties, attributes = set(), set(), set()
+        for node, _ in self.each(ast.ClassDef):
+            for part in node.body:
+                if isinstance(part, ast.FunctionDef):
+                    (properties if part.decorator_list else methods).add(part.name)
+        for node, _ in self.each(ast.Attribute):
+            if isinstance(node.ctx, ast.Store):
+                attributes.add(node.attr)
+        self.assertEqual(methods & properties | methods & attributes | properties & attributes, set())
+        not_used = set(METHODS) | {"args", "encode", "decode", "hex", "fromhex", "format", "sort"}
+        self.assertEqual((methods | properties | attributes) & not_used, set())
 
     def test_module_level(self):
         kinds = (ast.ImportFrom, ast.FunctionDef, ast.ClassDef, ast.Assign)
