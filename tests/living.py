@@ -78,8 +78,8 @@ class PlainLive:
                 for n in walks if walks[n]["rule"] == "left"}
         pages = [{record: times[-1][1] for record, times in lay.items()} for lay in self.state.lay]
         first = self.state.pasts[0]
-        return (first, self.state.edits, self.state.line, pages, self.walks(), [sorted(walks[n]["seen"]) for n in walks],
-                lain)
+        return (first, self.state.edits, self.state.line, pages, self.walks(),
+                [sorted(walks[n]["seen"]) for n in walks], lain)
 
     def pages_since(self, times, since):
         """The pages on which a record lay at any time since."""

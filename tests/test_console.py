@@ -18,26 +18,28 @@ LINES = ["edit 0 1 add a 5", "edit 0,1 2 put 0", "edit - 3 put 0 a 1", "edit 1 1
          "seen 0,1", "lacks -", "plain", "show"]
 # Lines that have none.
 UNKNOWN = [
-    "", " ", "x", "Clear", "clear ", "clear 1", " begin", "begin 0", "beginn", "edit", "edit 0", "edit 0 1", "edit 0 1 add",
-    "edit 0 1 add a", "edit 0 1 add a 5 6", "edit 0 1 add abcde 5", "edit 0 1 add a 01", "edit 0 1 add a 1000",
-    "edit 0 1 put", "edit 0 1 put 0 a", "edit 0 1 put 0 a 1 b", "edit 0 1 put 0 1 a", "edit 0 1 put a 1", "edit 0 1 strike",
-    "edit 0 1 strike a", "edit 0 1 drop 1", "edit 0 1 rename a", "edit 0 1 rename a b c", "edit 0 1 none 1", "edit 0 none",
-    "edit 0, 1 none", "edit ,0 1 none", "edit 0,,1 1 none", "edit a 1 none", "edit -,0 1 none", "edit 00 1 none",
-    "edit 0 -1 none", "edit 0 1 hide a", "edit  0 1 none", "edit 0 1 none ", "edit 1000 1 none", "undo", "undo 0 1", "undo a",
-    "undo 0 ", "redo", "redo 01", "move 0 1 1", "move 0 1 1 2 3", "move - 1 1 2", "move 0,1 1 1 2", "move 0 1 1 a", "drop",
-    "drop a", "drop -", "drop 0 0", "back 1", "again 0", "walk 0 0", "walk 0 0 Free", "walk 0 0 f1", "walk 0 0 freeeeeee",
-    "walk 0 0 free 1", "walk a 0 free", "walk 0 0 ", "step", "step -1", "step 0 0", "ask 0 a", "ask 0 1 5", "ask 0 A 5",
-    "ask 0 abcde 5", "ask a a 5", "ask 0 a 1000", "run 0", "run 0 5 5", "run a 5", "rows", "rows a", "rows 5 5", "seen",
-    "seen a", "seen 0 1", "lacks", "lacks 0,", "plain 1", "plains", "show 0", "Show", "ask\t0 a 5", "rule f base 1 a to h 0",
-    "deed 1 drop a", "page 0 1 1 1", "setting 2 1 1 0 3 one content", "back\n", "\n", "clear\n", "+row\nx", "+\n", "begin\n",
+    "", " ", "x", "Clear", "clear ", "clear 1", " begin", "begin 0", "beginn", "edit", "edit 0", "edit 0 1",
+    "edit 0 1 add", "edit 0 1 add a", "edit 0 1 add a 5 6", "edit 0 1 add abcde 5", "edit 0 1 add a 01",
+    "edit 0 1 add a 1000", "edit 0 1 put", "edit 0 1 put 0 a", "edit 0 1 put 0 a 1 b", "edit 0 1 put 0 1 a",
+    "edit 0 1 put a 1", "edit 0 1 strike", "edit 0 1 strike a", "edit 0 1 drop 1", "edit 0 1 rename a",
+    "edit 0 1 rename a b c", "edit 0 1 none 1", "edit 0 none", "edit 0, 1 none", "edit ,0 1 none", "edit 0,,1 1 none",
+    "edit a 1 none", "edit -,0 1 none", "edit 00 1 none", "edit 0 -1 none", "edit 0 1 hide a", "edit  0 1 none",
+    "edit 0 1 none ", "edit 1000 1 none", "undo", "undo 0 1", "undo a", "undo 0 ", "redo", "redo 01", "move 0 1 1",
+    "move 0 1 1 2 3", "move - 1 1 2", "move 0,1 1 1 2", "move 0 1 1 a", "drop", "drop a", "drop -", "drop 0 0",
+    "back 1", "again 0", "walk 0 0", "walk 0 0 Free", "walk 0 0 f1", "walk 0 0 freeeeeee", "walk 0 0 free 1",
+    "walk a 0 free", "walk 0 0 ", "step", "step -1", "step 0 0", "ask 0 a", "ask 0 1 5", "ask 0 A 5", "ask 0 abcde 5",
+    "ask a a 5", "ask 0 a 1000", "run 0", "run 0 5 5", "run a 5", "rows", "rows a", "rows 5 5", "seen", "seen a",
+    "seen 0 1", "lacks", "lacks 0,", "plain 1", "plains", "show 0", "Show", "ask\t0 a 5", "rule f base 1 a to h 0",
+    "deed 1 drop a", "page 0 1 1 1", "setting 2 1 1 0 3 one content", "back\n", "\n", "clear\n", "+row\nx", "+\n",
+    "begin\n",
 ]
 # Lines that have a form, and are beyond a limit.
 BEYOND = [
-    "edit 5 1 none", "edit 1,0 1 add a 5", "edit 0,0 1 add a 5", "edit 0 0 add a 5", "edit 0 1 add a 100", "edit 0 1 put 10",
-    "edit 0 1 put 0 a 100", "edit 0 1 put 0 a 1 a 2", "edit 0 1 put 0 a 1 b 1 c 1 d 1 e 1", "edit 0 1 strike 10",
-    "edit 0 999 none", "undo 9", "redo 0,999", "move 9 1 1 1", "move 0 1 1 6", "move 0 999 1 1", "drop 999", "walk 9 0 free",
-    "walk 0 9 free", "walk 0 0 fast", "walk 0 0 abcdefgh", "step 999", "ask 10 a 5", "run 10 5", "seen 9", "seen 1,0",
-    "lacks 0,0", "again",
+    "edit 5 1 none", "edit 1,0 1 add a 5", "edit 0,0 1 add a 5", "edit 0 0 add a 5", "edit 0 1 add a 100",
+    "edit 0 1 put 10", "edit 0 1 put 0 a 100", "edit 0 1 put 0 a 1 a 2", "edit 0 1 put 0 a 1 b 1 c 1 d 1 e 1",
+    "edit 0 1 strike 10", "edit 0 999 none", "undo 9", "redo 0,999", "move 9 1 1 1", "move 0 1 1 6", "move 0 999 1 1",
+    "drop 999", "walk 9 0 free", "walk 0 9 free", "walk 0 0 fast", "walk 0 0 abcdefgh", "step 999", "ask 10 a 5",
+    "run 10 5", "seen 9", "seen 1,0", "lacks 0,0", "again",
 ]
 
 
@@ -108,7 +110,8 @@ class Lines(unittest.TestCase):
                 word = rng.choice(("back", "again", "act", "act", "act", "act"))
                 act = (word,)
                 if word == "act":
-                    model.state.lay = [{record[:2]: [(0, 0)] for record in live.records(on)} for on in range(model.count)]
+                    lying = [[record[:2] for record in live.records(on)] for on in range(model.count)]
+                    model.state.lay = [{record: [(0, 0)] for record in records} for records in lying]
                     model.state.walks = {walk[0]: None for walk in live.walks()}
                     model.state.pasts = [live.past().deeds()]
                     act = some_act(rng, model)
@@ -125,15 +128,15 @@ class Lines(unittest.TestCase):
     def test_told(self):
         console = Console()
         told = [
-            ("begin", "error"), ("back", "error"), ("+" + SETTING, "ok"), ("begin", "ok"), ("show", "3"), ("plain", "copies"),
-            ("edit 0 1 add a 5", "ok"), ("edit 0 2 put 7 b 1 a 9", "ok"), ("ask 7 a 2", "9"), ("ask 7 a 1", "none"),
-            ("ask 7 b 2", "nowhere"), ("run 7 2", "yes"), ("run 7 1", "no"), ("rows 2", "0"), ("seen 0", "2"), ("seen 1", "0"),
-            ("lacks 1", "1 2"), ("lacks 0,1", "-"), ("lacks -", "1 2"), ("walk 0 1 free", "0"), ("show", "error"),
-            ("step 0", "on"), ("move 0 1 1 1", "ok"), ("step 0", "on"), ("step 0", "1"), ("step 0", "error"),
-            ("walk 1 0 left", "1"), ("drop 1", "ok"), ("show", "6"), ("undo 1", "ok"), ("ask 7 a 2", "none"), ("redo 0", "ok"),
-            ("show", "8"), ("back", "ok"), ("back", "ok"), ("again", "ok"), ("ask 7 a 2", "none"), ("again", "ok"),
-            ("ask 7 a 2", "9"), ("again", "error"), ("begin", "ok"), ("show", "3"), ("back", "error"), ("clear", "ok"),
-            ("show", "error"), ("begin", "error"),
+            ("begin", "error"), ("back", "error"), ("+" + SETTING, "ok"), ("begin", "ok"), ("show", "3"),
+            ("plain", "copies"), ("edit 0 1 add a 5", "ok"), ("edit 0 2 put 7 b 1 a 9", "ok"), ("ask 7 a 2", "9"),
+            ("ask 7 a 1", "none"), ("ask 7 b 2", "nowhere"), ("run 7 2", "yes"), ("run 7 1", "no"), ("rows 2", "0"),
+            ("seen 0", "2"), ("seen 1", "0"), ("lacks 1", "1 2"), ("lacks 0,1", "-"), ("lacks -", "1 2"),
+            ("walk 0 1 free", "0"), ("show", "error"), ("step 0", "on"), ("move 0 1 1 1", "ok"), ("step 0", "on"),
+            ("step 0", "1"), ("step 0", "error"), ("walk 1 0 left", "1"), ("drop 1", "ok"), ("show", "6"),
+            ("undo 1", "ok"), ("ask 7 a 2", "none"), ("redo 0", "ok"), ("show", "8"), ("back", "ok"), ("back", "ok"),
+            ("again", "ok"), ("ask 7 a 2", "none"), ("again", "ok"), ("ask 7 a 2", "9"), ("again", "error"),
+            ("begin", "ok"), ("show", "3"), ("back", "error"), ("clear", "ok"), ("show", "error"), ("begin", "error"),
         ]
         for line, answer in told:
             self.assertEqual(console.run(line), answer, line)
@@ -156,7 +159,8 @@ class Rows(unittest.TestCase):
         self.assertEqual(console.run("+condition has a"), "ok")
         self.assertEqual((console.run("run 0 5"), console.run("show")), ("no", "4"))
         self.assertEqual((console.run("begin"), console.run("show"), console.run("back")), ("ok", "3", "error"))
-        self.assertEqual((console.run("+x"), console.run("edit 0 5 strike 1"), console.run("begin")), ("ok", "ok", "error"))
+        self.assertEqual((console.run("+x"), console.run("edit 0 5 strike 1"), console.run("begin")),
+                         ("ok", "ok", "error"))
         self.assertEqual((console.run("show"), console.run("seen 0")), ("4", "1"))
         self.assertEqual((console.run("clear"), console.run("begin"), console.run("show")), ("ok", "error", "error"))
         self.assertEqual((console.run("+" + SETTING), console.run("begin"), console.run("show")), ("ok", "ok", "3"))
@@ -198,14 +202,16 @@ class Refused(unittest.TestCase):
                 self.assertNotEqual(console.run(word), "error")
             if line != "again":
                 self.assertEqual(console.run(line), "error", line)
-                self.assertEqual((console.run("again"), console.run("ask 0 a 2"), console.run("step 0")), ("ok", "5", "on"))
+                self.assertEqual((console.run("again"), console.run("ask 0 a 2"), console.run("step 0")),
+                                 ("ok", "5", "on"))
 
     def test_too_many(self):
         console = begun(SETTING, *[f"deed {moment} strike 1" for moment in range(1, 61)])
         self.assertEqual((console.run("edit 0 61 strike 1"), console.run("edit 0 60 none")), ("error", "ok"))
         for _ in range(29):
             self.assertEqual((console.run("undo 0"), console.run("redo 1")), ("ok", "ok"))
-        self.assertEqual((console.run("undo -"), console.run("redo 0"), console.run("edit 0 1 none")), ("ok", "error", "error"))
+        self.assertEqual((console.run("undo -"), console.run("redo 0"), console.run("edit 0 1 none")),
+                         ("ok", "error", "error"))
 
     def test_no_lines(self):
         for value in odd_values() + [b"back", ["back"]]:

@@ -233,11 +233,11 @@ class Papers(unittest.TestCase):
                       ("ring", "f", ["e"], ring * 2)):
             self.assertIs(accepts_ends(RINGED, paper), True)
         for paper in (("ring", "f", [], ring), ("ring", "e", [], ring), ("ring", "f", ["e", "e"], ring),
-                      ("ring", "f", ["e"], []), ("ring", "f", ["e"], ring[:2]), ("ring", "f", ["e"], ring[1:] + ring[:1]),
-                      ("ring", "f", ["e"], [("s", 0, 1), ("s", 1, 0)]), ("ring", "f", ["e"], [list(row) for row in ring]),
-                      ("ring", "f", ["f"], ring), ("ring", "f", ["e"], [("g", 1, True)] + ring[1:]),
-                      ("ring", "f", "e", ring), ("ring", "f", ["e"]), ["ring", "f", ["e"], ring],
-                      ("ring", "x", [], [("g", 1, 1), ("e", 1, 0), ("s", 0, 1)])):
+                      ("ring", "f", ["e"], []), ("ring", "f", ["e"], ring[:2]),
+                      ("ring", "f", ["e"], ring[1:] + ring[:1]), ("ring", "f", ["e"], [("s", 0, 1), ("s", 1, 0)]),
+                      ("ring", "f", ["e"], [list(row) for row in ring]), ("ring", "f", ["f"], ring),
+                      ("ring", "f", ["e"], [("g", 1, True)] + ring[1:]), ("ring", "f", "e", ring), ("ring", "f", ["e"]),
+                      ["ring", "f", ["e"], ring], ("ring", "x", [], [("g", 1, 1), ("e", 1, 0), ("s", 0, 1)])):
             self.assertIs(accepts_ends(RINGED, paper), False)
 
     def test_no_papers(self):

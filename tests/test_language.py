@@ -89,7 +89,8 @@ class Language(unittest.TestCase):
         for node, place in self.each(ast.FunctionDef):
             if node.name == "__exit__":
                 for part in ast.walk(node):
-                    kinds = (ast.Call, ast.Subscript, ast.For, ast.While, ast.Return, ast.Raise, ast.AugAssign, ast.Dict)
+                    kinds = (ast.Call, ast.Subscript, ast.For, ast.While, ast.Return, ast.Raise, ast.AugAssign,
+                             ast.Dict)
                     self.assertNotIsInstance(part, kinds, place)
                     if isinstance(part, ast.Assign):
                         self.assertIsInstance(part.targets[0], ast.Attribute, place)

@@ -95,7 +95,8 @@ class Mixed(unittest.TestCase):
     def test_counts(self):
         yes, no = (True, (1,)), (False, (False,))
         self.assertEqual([mixed_outcome(BOTH, no, yes, count) for count in range(4)], ["yes", "no", "no", "no"])
-        self.assertEqual([mixed_outcome(BOTH, yes, no, count) for count in range(5)], ["no", "no", "fault", "yes", "yes"])
+        self.assertEqual([mixed_outcome(BOTH, yes, no, count) for count in range(5)],
+                         ["no", "no", "fault", "yes", "yes"])
         self.assertEqual(mixed_outcome(BOTH, yes, no, 10 ** 30), "yes")
         self.assertEqual(mixed_outcome(count=2, other=no, one=yes, condition=BOTH), "fault")
 
@@ -201,9 +202,10 @@ class Papers(unittest.TestCase):
         self.assertIs(accepts_parted(EITHER, ("parted", one, other + sixty, 1)), True)
         bent = [
             list(right), right[:3], right + (1,), ("Parted",) + right[1:], ("parted", other, one, 1),
-            ("parted", one, other, 0), ("parted", one, other, 2), ("parted", one, other, -1), ("parted", one, other, True),
-            ("parted", one, other, 1.0), ("parted", one, other * 2, 1), ("parted", one, Past(other), 1),
-            ("parted", one, [(0, "put", 0, ())], 1), ("parted", one, [list(other[0])], 1), ("parted", None, other, 1),
+            ("parted", one, other, 0), ("parted", one, other, 2), ("parted", one, other, -1),
+            ("parted", one, other, True), ("parted", one, other, 1.0), ("parted", one, other * 2, 1),
+            ("parted", one, Past(other), 1), ("parted", one, [(0, "put", 0, ())], 1),
+            ("parted", one, [list(other[0])], 1), ("parted", None, other, 1),
             ("parted", one, other + sixty + [(62, "strike", 1)], 1), ("parted", one, [(2, "put", 1, ())], 1),
         ]
         for paper in bent + odd_values():

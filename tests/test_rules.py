@@ -154,7 +154,8 @@ class Invented(unittest.TestCase):
             told.append(("bcd"[place - 1], (tables[place - 1], 2), head))
         rows = one_row(Rules(told), {"a": 7})
         self.assertEqual(rows, rows_of_one(told, {"a": 7}))
-        self.assertEqual([[depth(value) for value in entries] for _, entries in rows], [[0, 1], [1, 2], [2, 3], [3, 2, 3]])
+        self.assertEqual([[depth(value) for value in entries] for _, entries in rows],
+                         [[0, 1], [1, 2], [2, 3], [3, 2, 3]])
         past = Past([(1, "add", "a", 7), (2, "put", 0, ()), (3, "put", 1, (("a", 8),)), (4, "put", 2, ())])
         for keys in permutations(range(3)):
             plain = renumbered(rows_of_all(told, plain_rows_at(past.deeds(), 4), keys))
@@ -197,8 +198,8 @@ class Invented(unittest.TestCase):
     def test_all_orders_of_keys(self):
         deeds = [(1, "add", "a", 0), (2, "add", "b", 3)]
         deeds += [(3 + key, "put", key, (("a", key // 2),)) for key in range(4)]
-        told = [("f", ("base", ("a",)), ("h", (0, ("new", "n")))), ("g", ("h", 2), ("k", (("new", "n"), 1, ("new", "m")))),
-                ("e", ("k", 3), ("p", (1, 0)))]
+        told = [("f", ("base", ("a",)), ("h", (0, ("new", "n")))),
+                ("g", ("h", 2), ("k", (("new", "n"), 1, ("new", "m")))), ("e", ("k", 3), ("p", (1, 0)))]
         rules, past = Rules(told), Past(deeds)
         rows = rows_at(past, 9)
         unlike = set()
@@ -250,7 +251,8 @@ class Refusals(unittest.TestCase):
     def test_keys(self):
         rules = Rules([FIRST])
         past = Past([(1, "add", "a", 1), (2, "put", 0, ()), (3, "put", 1, ())])
-        wrong = [[0], [1], [0, 0], [0, 1, 1], [0, 1, 2], {0: 0, 1: 1}, [False, True], [0, True], [0.0, 1], "01", range(2)]
+        wrong = [[0], [1], [0, 0], [0, 1, 1], [0, 1, 2], {0: 0, 1: 1}, [False, True], [0, True], [0.0, 1], "01",
+                 range(2)]
         for value in odd_values() + wrong:
             raised(self, NoKeys, value, numbered, rules, past, 3, value, most=None)
             raised(self, NoKeys, value, numbered, keys=value, t=3, past=past, rules=rules)

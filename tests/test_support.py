@@ -233,7 +233,8 @@ class Surely(unittest.TestCase):
         ])
         self.assertEqual(album(known={}, present=("c",), rules=RULES), [("k", (("column", "c"), ("column", "c")))])
         question = ("k", (("mark", 3), 2))
-        self.assertEqual(sure_paper(RULES, ["b", "a"], known, question), ("sure", ("b", "a"), known, question, "f", ["g"]))
+        self.assertEqual(sure_paper(RULES, ["b", "a"], known, question),
+                         ("sure", ("b", "a"), known, question, "f", ["g"]))
         self.assertIs(surely(question=question, known=known, present=["a", "b"], rules=RULES), True)
         self.assertIs(surely(RULES, ["a"], {}, question), False)
         self.assertEqual(sure_paper(RULES, ["a"], {}, question), ("open", ("a",), {}, question, []))
@@ -345,7 +346,8 @@ class Papers(unittest.TestCase):
             rules = Rules(told)
             present, known = some_told(rng, told)
             paper = sure_paper(rules, present, known, some_question(rng, told))
-            odd = [rule[0] for rule in told] + [0, 1, True, None, ("made", 1), ("made", 2), ("value", 1), ("column", "a")]
+            odd = [rule[0] for rule in told] + [0, 1, True, None, ("made", 1), ("made", 2), ("value", 1),
+                                                ("column", "a")]
             odd += [(table, (("value", 7),) * width) for table, width in tables_of(told).items()]
             odd += [(table, (("made", True),) * width) for table, width in tables_of(told).items()]
             for _ in range(15):
@@ -364,15 +366,17 @@ class Papers(unittest.TestCase):
         more = paper[4] + [("k", (("made", 1), ("made", 2))), ("k", (("value", 3), ("value", 99)))]
         self.assertIs(accepts_sure(RULES, paper[:4] + (tuple(more),)), True)
         self.assertIs(accepts_sure(RULES, paper[:4] + (more + more,)), True)
-        for value in (("k", (("made", 2), ("made", 1))), ("k", (("value", 9), ("value", 9))), ("k", (("column", "c"),) * 2),
-                      ("k", (("column", "a"),) * 2), ("k", (("value", 3),)), ["k", (("value", 3),) * 2], ("x", ()),
-                      ("k", (("value", True),) * 2), ("k", (("value", 100),) * 2), ("h", (("value", 1),) * 3)):
+        for value in (("k", (("made", 2), ("made", 1))), ("k", (("value", 9), ("value", 9))),
+                      ("k", (("column", "c"),) * 2), ("k", (("column", "a"),) * 2), ("k", (("value", 3),)),
+                      ["k", (("value", 3),) * 2], ("x", ()), ("k", (("value", True),) * 2),
+                      ("k", (("value", 100),) * 2), ("h", (("value", 1),) * 3)):
             self.assertIs(accepts_sure(RULES, paper[:4] + (more + [value],)), False)
 
     def test_the_first_parts(self):
         paper = sure_paper(RULES, ["a", "b"], {"b": 2}, ("k", (("mark", 1), 2)))
         self.assertEqual(paper[4:], ("f", ["g"]))
-        self.assertIs(accepts_sure(RULES, ("sure", ["b", "a", "zz"], {"b": 2}, ("k", (("mark", 1), 2)), "f", ("g",))), True)
+        self.assertIs(accepts_sure(RULES, ("sure", ["b", "a", "zz"], {"b": 2}, ("k", (("mark", 1), 2)), "f", ("g",))),
+                      True)
         self.assertIs(accepts_sure(paper=paper, rules=RULES), True)
         wrong = {
             0: ["open", "Sure"], 1: [("a",), ("a", "b", "b"), ("a", "B"), {"a": 1, "b": 1}, "ab"],

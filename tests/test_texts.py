@@ -154,7 +154,8 @@ class Written(unittest.TestCase):
         live = read(text)
         self.assertEqual(live.setting().rules.all_rules(), [("to", ("to", 2), ("base", (1, ("new", "to"), 0)))])
         self.assertEqual(live.setting().condition, ("all", (
-            ("not", ("not", ("has", "a"))), ("any", (("row",),)), ("row",), ("less", "a", 0), ("eq", "b", 99), ("has", "b"),
+            ("not", ("not", ("has", "a"))), ("any", (("row",),)), ("row",), ("less", "a", 0), ("eq", "b", 99),
+            ("has", "b"),
         )))
         self.assertEqual(live.edits(), [((0, 1), ("in", (5, "put", 3, (("a", 2), ("b", 1))))), ((), ("out", 5)),
                                         ((0,), ("in", (5, "put", 3, (("a", 2), ("b", 1)))))])
@@ -187,9 +188,9 @@ class Written(unittest.TestCase):
 class Bent(unittest.TestCase):
     def test_in_many_ways_beside_a_judge(self):
         rng = random.Random(233)
-        odd = ["0", "1", "2", "3", "6", "7", "9", "10", "60", "99", "100", "999", "1000", "01", "-1", "-", "0,1", "1,0", "0,0",
-               "a", "b", "zz", "abcde", "A", "+n", "+", "none", "row", "has", "eq", "not", "all", "any", "base", "table", "to",
-               "put", "strike", "one", "each", "", "content", "0,", ",", "5"]
+        odd = ["0", "1", "2", "3", "6", "7", "9", "10", "60", "99", "100", "999", "1000", "01", "-1", "-", "0,1", "1,0",
+               "0,0", "a", "b", "zz", "abcde", "A", "+n", "+", "none", "row", "has", "eq", "not", "all", "any", "base",
+               "table", "to", "put", "strike", "one", "each", "", "content", "0,", ",", "5"]
         firsts = ["setting", "condition", "plan", "rule", "deed", "edit", "undo", "redo", "page", "pages", ""]
         seen = {}
         for _ in range(150):
@@ -234,21 +235,23 @@ class Bent(unittest.TestCase):
             rows[at] = " ".join(words[:place] + [rng.choice(odd)] + words[place + 1:])
 
     def test_each_kind_of_row(self):
-        ahead = ["condition all 2 row has a", "plan all 2 has a row", "rule f base 1 a to h 0 +n", "rule g table h 2 to k 1",
-                 "deed 4 add a 5", "deed 5 put 1 b 2 a 1", "page 0 4 0 1", "edit 0 4 none", "page 0 4 1 0"]
+        ahead = ["condition all 2 row has a", "plan all 2 has a row", "rule f base 1 a to h 0 +n",
+                 "rule g table h 2 to k 1", "deed 4 add a 5", "deed 5 put 1 b 2 a 1", "page 0 4 0 1", "edit 0 4 none",
+                 "page 0 4 1 0"]
         wrong = [
             "setting 2 1 1 0 3 one content", "condition row", "plan all 2 has a row", "rule f base 1 a to k 0",
             "rule e table h 1 to k 0", "rule e table h 2 to h 1 +n", "rule e base 0 to k 0", "rule e base 2 a to k 0",
             "rule e base 1 a to k 1", "rule e base 1 a to k", "rule e base 1 a k 0", "rule e table h 2 k 0", "rule",
-            "rule e table h 2 to k +", "rule e table h 2 to k +abcde", "rule e bases 1 a to k 0", "rule e base", "rule e",
-            "rule e base 1 a to k 00", "rule E base 1 a to k 0", "rule e table h to k 0", "deed 6 strike 1", "page 0 4 1 1",
-            "page 0 5 0 3", "page 2 5 0 1", "page 1 4 1 1", "page 0 6 0 1", "page 0 5 1 1", "page 0 5 0", "page 0 5 0 1 1",
-            "page 0 5 0 01", "page 0 4 0 1", "edit 0 5 put 1", "edit 0 6 none", "edit 0 0 strike 1", "edit 2 6 strike 1",
-            "edit 1,0 6 strike 1", "edit 0,0 6 strike 1", "edit 6 strike 1", "edit  6 strike 1", "edit 0 6 strike 10",
-            "edit 0 6 strike", "edit 0 6 add a 100", "edit 0 6 put 1 a", "edit 0 6 put 1 a 1 a 2", "edit 0 6 put a 1",
-            "edit 0 6 put 1 a 1 b 1 c 1 d 1 e 1", "edit 0 6", "edit 0", "edit", "edit 0 1000 strike 1", "edit 0 6 none none",
-            "edit 0 6 rename a", "edit 0 6 rename a b c", "edit 0 6 drop A", "edit 0 6 drop", "edit 0 6 hide a", "undo 2",
-            "undo", "undo 0 1", "undo 0 4 none", "redo 0", "redo", "", " ", "undo 0 ", " undo 0", "x", "Undo 0", "undo 0,",
+            "rule e table h 2 to k +", "rule e table h 2 to k +abcde", "rule e bases 1 a to k 0", "rule e base",
+            "rule e", "rule e base 1 a to k 00", "rule E base 1 a to k 0", "rule e table h to k 0", "deed 6 strike 1",
+            "page 0 4 1 1", "page 0 5 0 3", "page 2 5 0 1", "page 1 4 1 1", "page 0 6 0 1", "page 0 5 1 1",
+            "page 0 5 0", "page 0 5 0 1 1", "page 0 5 0 01", "page 0 4 0 1", "edit 0 5 put 1", "edit 0 6 none",
+            "edit 0 0 strike 1", "edit 2 6 strike 1", "edit 1,0 6 strike 1", "edit 0,0 6 strike 1", "edit 6 strike 1",
+            "edit  6 strike 1", "edit 0 6 strike 10", "edit 0 6 strike", "edit 0 6 add a 100", "edit 0 6 put 1 a",
+            "edit 0 6 put 1 a 1 a 2", "edit 0 6 put a 1", "edit 0 6 put 1 a 1 b 1 c 1 d 1 e 1", "edit 0 6", "edit 0",
+            "edit", "edit 0 1000 strike 1", "edit 0 6 none none", "edit 0 6 rename a", "edit 0 6 rename a b c",
+            "edit 0 6 drop A", "edit 0 6 drop", "edit 0 6 hide a", "undo 2", "undo", "undo 0 1", "undo 0 4 none",
+            "redo 0", "redo", "", " ", "undo 0 ", " undo 0", "x", "Undo 0", "undo 0,",
         ]
         right = ["edit 0,1 6 put 9 d 99 c 0 b 1 a 2", "edit - 4 rename a a", "undo 0", "page 1 5 0 2", "page 0 5 0 0",
                  "rule e table h 2 to k +m", "rule e base 3 c b a to k 2", "rule base table base 3 to base 2 +b 0",
@@ -261,18 +264,20 @@ class Bent(unittest.TestCase):
             text = "\n".join([SETTING] + ahead + [row])
             self.assertIs(first_wrong(text), None, row)
             self.assertTrue(is_written(write(read(text))))
-        for row in ("plan row", "condition", "condition row row", "condition all 0", "condition all 1", "condition eq a 100",
-                    "condition eq a 01", "condition has", "condition has abcde", "condition all 2 row row", "condition nots row",
-                    "condition not not not not row", "condition any 7 row row row row row row row", "condition all 01 row",
+        for row in ("plan row", "condition", "condition row row", "condition all 0", "condition all 1",
+                    "condition eq a 100", "condition eq a 01", "condition has", "condition has abcde",
+                    "condition all 2 row row", "condition nots row", "condition not not not not row",
+                    "condition any 7 row row row row row row row", "condition all 01 row",
                     "condition " + "not " * 3000 + "row", "condition all 999 row", "page 0 1 0 0", "undo 0"):
             raised(self, BadText, 1, read, SETTING + "\n" + row + "\nx")
 
     def test_first_rows(self):
-        for row in ("", "condition row", "setting", "setting 2 1 1 0 3 one", SETTING + " x", "setting 2 1 1 0 3 both content",
-                    "setting 2 1 1 0 3 one names", "setting 6 1 1 0 3 one content", "setting 2 3 1 0 3 one content",
-                    "setting 2 1 0 0 3 one content", "setting 2 1 1 3 3 one content", "setting 2 1 1 0 7 one content",
-                    "setting 2 1 1 0 0 one content", "setting 02 1 1 0 3 one content", " " + SETTING, SETTING + " ",
-                    "setting 2 1 1 0 3 content one", "Setting 2 1 1 0 3 one content", "deed 1 strike 1"):
+        for row in ("", "condition row", "setting", "setting 2 1 1 0 3 one", SETTING + " x",
+                    "setting 2 1 1 0 3 both content", "setting 2 1 1 0 3 one names", "setting 6 1 1 0 3 one content",
+                    "setting 2 3 1 0 3 one content", "setting 2 1 0 0 3 one content", "setting 2 1 1 3 3 one content",
+                    "setting 2 1 1 0 7 one content", "setting 2 1 1 0 0 one content", "setting 02 1 1 0 3 one content",
+                    " " + SETTING, SETTING + " ", "setting 2 1 1 0 3 content one", "Setting 2 1 1 0 3 one content",
+                    "deed 1 strike 1"):
             raised(self, BadText, 0, read, row)
             raised(self, BadText, 0, read, row + "\n" + SETTING)
         raised(self, BadText, 1, read, SETTING + "\n")

@@ -207,7 +207,8 @@ class Least(unittest.TestCase):
     def test_many_names(self):
         names = [one + other for one in "abcdefgh" for other in "abcdefghi"]
         deeds = [(2 * at + 1, "add", names[at], at) for at in range(10)]
-        deeds += [(2 * at + 21, "put", 1, tuple((name, 3) for name in names[10 + 4 * at:14 + 4 * at])) for at in range(10)]
+        for at in range(10):
+            deeds.append((2 * at + 21, "put", 1, tuple((name, 3) for name in names[10 + 4 * at:14 + 4 * at])))
         for wish in ((1, "ai", 999, 77), (0, "zz", 999, 77), (1, "hh", 41, 0), (1, "ad", 40, 9)):
             told = least_changes(Past(deeds), wish)
             self.assertIs(does(Past(deeds), wish, told), True)
@@ -258,8 +259,9 @@ class Refusals(unittest.TestCase):
             raised(self, NoPast, value, is_so, value, None)
             raised(self, NoPast, value, least_changes, value, None)
             raised(self, NoPast, value, does, value, None, None)
-        wrong = [(10, "a", 1, 1), (True, "a", 1, 1), (0, "A", 1, 1), (0, "a", 1000, 1), (0, "a", True, 1), (0, "a", -1, 1),
-                 (0, "a", 1, 100), (0, "a", 1, True), (0, "a", 1), (0, "a", 1, 1, 1), [0, "a", 1, 1], (0, "a", 1, "no row")]
+        wrong = [(10, "a", 1, 1), (True, "a", 1, 1), (0, "A", 1, 1), (0, "a", 1000, 1), (0, "a", True, 1),
+                 (0, "a", -1, 1), (0, "a", 1, 100), (0, "a", 1, True), (0, "a", 1), (0, "a", 1, 1, 1), [0, "a", 1, 1],
+                 (0, "a", 1, "no row")]
         wrong += [(0, "a", 1, 1)[:place] + (value,) + (0, "a", 1, 1)[place + 1:] for value in odd_values()
                   for place in range(4) if not (place == 1 and repr(value) == "'put'")]
         for value in odd_values() + wrong:

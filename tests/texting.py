@@ -185,7 +185,9 @@ class Judge:
         return True
 
     def led(self):
-        return PlainLive(self.counts[0], self.counts[4], list(self.deeds.values())) if self.model is None else self.model
+        if self.model is not None:
+            return self.model
+        return PlainLive(self.counts[0], self.counts[4], list(self.deeds.values()))
 
     def act(self, word, lot, *more):
         model = self.led()
