@@ -35,8 +35,6 @@ def read(text):
 
 def is_written(text):
     """Whether any value is the written text of some store."""
-    if not isinstance(text, str):
-        return False
     try:
         live = read(text)
     except BadText:

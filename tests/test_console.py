@@ -38,8 +38,8 @@ BEYOND = [
     "edit 5 1 none", "edit 1,0 1 add a 5", "edit 0,0 1 add a 5", "edit 0 0 add a 5", "edit 0 1 add a 100",
     "edit 0 1 put 10", "edit 0 1 put 0 a 100", "edit 0 1 put 0 a 1 a 2", "edit 0 1 put 0 a 1 b 1 c 1 d 1 e 1",
     "edit 0 1 strike 10", "edit 0 999 none", "undo 9", "redo 0,999", "move 9 1 1 1", "move 0 1 1 6", "move 0 999 1 1",
-    "drop 999", "walk 9 0 free", "walk 0 9 free", "walk 0 0 fast", "walk 0 0 abcdefgh", "step 999", "ask 10 a 5",
-    "run 10 5", "seen 9", "seen 1,0", "lacks 0,0", "again",
+    "drop 999", "walk 9 0 free", "walk 0 9 free", "walk 0 0 fast", "walk 0 0 f", "walk 0 0 abcdefgh", "step 999",
+    "ask 10 a 5", "run 10 5", "seen 9", "seen 1,0", "lacks 0,0", "again",
 ]
 
 

@@ -222,8 +222,9 @@ class Papers(unittest.TestCase):
         pairs = [(("k", 0), 9), (("h", 1), 4), (("h", 0), 2)]
         self.assertIs(accepts_ends(ENDING, ("ends", tuple(pairs))), True)
         self.assertIs(accepts_ends(paper=("ends", pairs + [(("m", 0), 0)]), rules=ENDING), True)
-        for bent in (pairs[1:], pairs + pairs[:1], pairs + [(("n", 0), 0)], [(("k", 0), 1)] + pairs[1:],
-                     [pairs[0], (("h", 1), 0), pairs[2]], pairs[:2] + [(("h", 0), True)], pairs + [(("m", 0), -1)]):
+        for bent in (pairs[1:], pairs + pairs[:1], pairs + [(("n", 0), 0)], pairs + [(("k", 1), 9)],
+                     [(("k", 0), 1)] + pairs[1:], [pairs[0], (("h", 1), 0), pairs[2]], pairs[:2] + [(("h", 0), True)],
+                     pairs + [(("m", 0), -1)]):
             self.assertIs(accepts_ends(ENDING, ("ends", bent)), False)
         self.assertIs(accepts_ends(Rules(), ("ends", [])), True)
         self.assertIs(accepts_ends(Rules(), ("ends", ())), True)

@@ -366,9 +366,9 @@ class Papers(unittest.TestCase):
         more = paper[4] + [("k", (("made", 1), ("made", 2))), ("k", (("value", 3), ("value", 99)))]
         self.assertIs(accepts_sure(RULES, paper[:4] + (tuple(more),)), True)
         self.assertIs(accepts_sure(RULES, paper[:4] + (more + more,)), True)
-        for value in (("k", (("made", 2), ("made", 1))), ("k", (("value", 9), ("value", 9))),
-                      ("k", (("column", "c"),) * 2), ("k", (("column", "a"),) * 2), ("k", (("value", 3),)),
-                      ["k", (("value", 3),) * 2], ("x", ()), ("k", (("value", True),) * 2),
+        for value in (("k", (("value", 3), ("made", 2))), ("k", (("made", 2), ("made", 1))),
+                      ("k", (("value", 9), ("value", 9))), ("k", (("column", "c"),) * 2), ("k", (("column", "a"),) * 2),
+                      ("k", (("value", 3),)), ["k", (("value", 3),) * 2], ("x", ()), ("k", (("value", True),) * 2),
                       ("k", (("value", 100),) * 2), ("h", (("value", 1),) * 3)):
             self.assertIs(accepts_sure(RULES, paper[:4] + (more + [value],)), False)
 

@@ -268,7 +268,8 @@ class Bent(unittest.TestCase):
                     "condition eq a 100", "condition eq a 01", "condition has", "condition has abcde",
                     "condition all 2 row row", "condition nots row", "condition not not not not row",
                     "condition any 7 row row row row row row row", "condition all 01 row",
-                    "condition " + "not " * 3000 + "row", "condition all 999 row", "page 0 1 0 0", "undo 0"):
+                    "condition " + "not " * 3000 + "row", "condition " + "all 1 " * 3000 + "row",
+                    "condition all 999 row", "page 0 1 0 0", "undo 0"):
             raised(self, BadText, 1, read, SETTING + "\n" + row + "\nx")
 
     def test_first_rows(self):
