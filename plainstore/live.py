@@ -164,11 +164,7 @@ class Live:
         return len(self._tape.backs)
 
     def __eq__(self, other):
-        return isinstance(other, Live) and self._setting == other._setting and self._parts() == other._parts()
-
-    def _parts(self):
-        """What is alike in equal stores."""
-        return (self._tape.now.copies, self._tape.now.places, self._tape.now.going)
+        return isinstance(other, Live) and self._setting == other._setting and self._tape.now == other._tape.now
 
     def _going(self, walk):
         """The walk of this number."""

@@ -68,7 +68,7 @@ class Rules:
         return list(self._names)
 
     def __eq__(self, other):
-        return isinstance(other, Rules) and self.all_rules() == other.all_rules()
+        return isinstance(other, Rules) and self._names == other._names and self._rules == other._rules
 
 
 def invented(rules, past, t, *, most=2000):

@@ -59,6 +59,13 @@ class Standing:
         going = {other: self.going[other] for other in self.going if other != number}
         return Standing(self.copies, self.words, self.places, going, self.begun)
 
+    def __eq__(self, other):
+        # Neither the words of edits nor how many walks there were count.
+        return (
+            isinstance(other, Standing) and self.copies == other.copies and self.places == other.places
+            and self.going == other.going
+        )
+
     def _going_on(self, lot, lying):
         """The walks, where records come to lie so on the copies of a lot."""
         walks = {}
